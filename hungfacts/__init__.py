@@ -1,0 +1,1 @@
+"""Hungfacts: units that are made by facts about one another."""

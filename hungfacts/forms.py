@@ -1,0 +1,34 @@
+"""The forms that the words of a line have."""
+
+LOWER = "abcdefghijklmnopqrstuvwxyz"
+UPPER = "ABCDEFGHIJKLMNOPQRSTUVWXYZ"
+DIGITS = "0123456789"
+FIXED = ("NONE", "BAD")
+NUM = "num"
+
+
+def consists_of(text, signs):
+    """Whether each sign of a text is one of these."""
+    return all([sign in signs for sign in text])
+
+
+def is_name(text):
+    return 1 <= len(text) <= 6 and text[0] in LOWER and consists_of(text, LOWER + DIGITS)
+
+
+def is_numeral(text):
+    digits = text[1:] if text.startswith("-") else text
+    if not 1 <= len(digits) <= 9 or not consists_of(digits, DIGITS):
+        return False
+    return digits[0] != "0" or text == "0"
+
+
+def is_capital(text):
+    """Whether a string can be a word of a program, NONE and BAD not left out."""
+    return 1 <= len(text) <= 6 and consists_of(text, UPPER)
+
+
+def called_function(home, text):
+    """The unit and the name of the function that a call in the unit home names."""
+    unit, _, name = text.rpartition(".")
+    return unit or home, name

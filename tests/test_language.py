@@ -1,0 +1,129 @@
+"""The files of the package against the rules of the language and the interface of the document."""
+
+import ast
+import unittest
+from pathlib import Path
+
+from tests import rules
+
+PACKAGE = "hungfacts"
+FOLDER = Path(__file__).resolve().parent.parent / PACKAGE
+INTERFACE = {
+    "units.py": {"is_words": ("value",), "Unit": ("words", "text")},
+    "programs.py": {"Program": ("units", "roots")},
+    "clauses.py": {"unit_clauses": ("unit",), "clauses": ("program",)},
+}
+METHODS = {"programs.py": {"Program": {"unit": ("self", "name")}}}
+
+HEAD = '"""Some file."""\n'
+WRONG = [
+    ("L10", "def f(a):\n" + "    a = 1\n" * 40 + "    return a\n"),
+    ("L10", "# " + "x" * 120 + "\n"), ("L14", "# \u00e4\n"), ("L14", "def f(a):\n\treturn a\n"),
+    ("L2", "import os\n"), ("L2", "from os import path\n"), ("L2", "from .other import thing\n"),
+    ("L2", "from pack.other import *\n"), ("L16", "from pack.other import nothing\n"), ("L16", "from pack.other import back\n"),
+    ("L2", "X = 1\nfrom pack.other import thing\nY = thing\n"), ("L3", "print(1)\n"), ("L3", "X = len('a')\n"),
+    ("L3", "X, Y = 1, 2\n"), ("L15", "X = 1\nX = 2\n"), ("L15", "def f(hash):\n    return hash\n"),
+    ("L15", "from pack.other import thing\n\n\ndef f(thing):\n    return thing\n"), ("L15", "def f(a):\n    id = a\n    return id\n"),
+    ("L17", "def f(law):\n    return law\n"), ("L17", "def f(a):\n    return a.f_code\n"),
+    ("L17", "def f(a):\n    return a == 'typing'\n"), ("L17", "def f(a):\n    return g(register=a)\n\n\ndef g(b):\n    return b\n"),
+    ("L27", "X = 'a%'\n"), ("L27", "X = 'a._'\n"), ("L27", "X = '\\x41'\n"), ("L27", "X = '__a b__'\n"),
+    ("L7", "X = 1.5\n"), ("L6", "def f(a):\n    return a / 2\n"), ("L6", "def f(a):\n    global X\n    return a\n"),
+    ("L19", "def f(a):\n    try:\n        return a\n    except Exception:\n        return 1\n"),
+    ("L19", "def f(a):\n    try:\n        return a\n    except TypeError:\n        return 1\n"),
+    ("L19", "def f(a):\n    raise a\n"), ("L20", "def f(a, b):\n    return a is b\n"),
+    ("L4", "def g(a):\n    return a\n\n\n@g\ndef f(a):\n    return a\n"),
+    ("L28", "class A:\n    def __init__(self):\n        return None\n"),
+    ("L8", "def f(a):\n    return round(a)\n"), ("L8", "def f(a):\n    return chr(a)\n"),
+    ("L8", "class A:\n    def __hash__(self):\n        return 1\n"), ("L12", "def f(_):\n    return _\n"),
+    ("L12", "def f(a\u00e4):\n    return 1\n"), ("L25", "def f(a):\n    return a.encode()\n"),
+    ("L25", "def f(a):\n    return a.split(sep=',')\n"), ("L18", "def f(a):\n    return a.nothing\n"),
+    ("L22", "def f(a):\n    return int(x=a)\n"), ("L26", "class A:\n    def __init__(self):\n        self.items = 1\n"),
+    ("L23", "def f(a):\n    b = zip(a, a)\n    return b\n"), ("L23", "def f(a):\n    return a.items()\n"),
+    ("L24", "def f(a):\n    return set(a)\n"), ("L24", "def f(a):\n    return list({x for x in a})\n"),
+    ("L7", "def f(a):\n    return any(x for x in a)\n"), ("unused", "from pack.other import thing\n"),
+    ("L3", "def f(a):\n    return T[a](1)\n\n\nT = {1: f}\n"),
+]
+
+
+def files_of(folder):
+    return {str(path.relative_to(folder)): path.read_text(encoding="utf-8") for path in sorted(folder.rglob("*.py"))}
+
+
+def parameters(node):
+    return tuple([each.arg for each in node.args.args])
+
+
+class TestPackage(unittest.TestCase):
+    def setUp(self):
+        self.files = files_of(FOLDER)
+
+    def test_rules(self):
+        self.assertEqual(rules.faults_of(self.files, PACKAGE), [])
+
+    def test_nothing_else_in_the_folder(self):
+        others = [str(path) for path in FOLDER.rglob("*") if path.suffix != ".py" and "__pycache__" not in str(path)]
+        self.assertEqual([path for path in others if not Path(path).is_dir()], [])
+        self.assertIn("__init__.py", self.files)
+
+    def test_no_warnings(self):
+        self.assertEqual(rules.version_warnings(self.files), [])
+
+    def test_name_of_the_package(self):
+        self.assertFalse(rules.is_library_name(PACKAGE))
+
+    def test_interface(self):
+        for name, wanted in INTERFACE.items():
+            own = {node.name: node for node in ast.parse(self.files[name]).body
+                   if isinstance(node, (ast.FunctionDef, ast.ClassDef))}
+            for each, arguments in wanted.items():
+                with self.subTest(file=name, name=each):
+                    node = own[each]
+                    if isinstance(node, ast.ClassDef):
+                        methods = {part.name: parameters(part) for part in node.body if isinstance(part, ast.FunctionDef)}
+                        self.assertEqual(methods["__init__"], ("self",) + arguments)
+                        for method, taken in METHODS.get(name, {}).get(each, {}).items():
+                            self.assertEqual(methods[method], taken)
+                    else:
+                        self.assertEqual(parameters(node), arguments)
+
+
+class TestRules(unittest.TestCase):
+    """The rules themselves are looked at: each finds what it is for."""
+
+    def files(self, text):
+        other = HEAD + "from pack.third import back\n\n\ndef thing(a):\n    return back(a)\n"
+        third = HEAD + "\n\ndef back(a):\n    return a\n"
+        return {"__init__.py": HEAD, "some.py": HEAD + text, "other.py": other, "third.py": third}
+
+    def test_right_file(self):
+        text = "from pack.other import thing\n\nX = (1, 2)\n\n\ndef f(a):\n    return thing([x for x in a if x in X])\n"
+        self.assertEqual(rules.faults_of(self.files(text), "pack"), [])
+
+    def test_wrong_files(self):
+        for rule, text in WRONG:
+            with self.subTest(rule, text=text):
+                found = rules.faults_of(self.files(text), "pack")
+                self.assertIn((rule, "some.py"), [fault[:2] for fault in found])
+
+    def test_long_file(self):
+        found = rules.faults_of(self.files("# x\n" * 400), "pack")
+        self.assertEqual([fault[:2] for fault in found], [("L10", "some.py")])
+        self.assertEqual(rules.faults_of(self.files("# x\n" * 398), "pack"), [])
+
+    def test_ring_of_imports(self):
+        files = self.files("from pack.ring import one\n\n\ndef two(a):\n    return one(a)\n")
+        files["ring.py"] = HEAD + "from pack.some import two\n\n\ndef one(a):\n    return two(a)\n"
+        found = rules.faults_of(files, "pack")
+        self.assertIn(("L16", "pack.some", 0), found)
+        self.assertIn(("L16", "pack.ring", 0), found)
+
+    def test_file_names(self):
+        for name in ("Some.py", "len.py", "test_x.py", "law_x.py", "a/b.py", "__main__x.py", "typing.py"):
+            files = self.files("X = 1\n")
+            files[name] = HEAD
+            with self.subTest(name):
+                self.assertIn(name, [fault[1] for fault in rules.faults_of(files, "pack")])
+
+
+if __name__ == "__main__":
+    unittest.main()
