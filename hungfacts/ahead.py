@@ -53,7 +53,7 @@ class Ahead:
 
     def take_row(self, line, words):
         """Take a line within a function that may stand there."""
-        row = Row(line, words)
+        row = Row(line, words, tuple(sorted([name for scope in self.scopes for name in scope])))
         if words[0] in ("else", "catch", "end"):
             self._close_part(row)
         elif words[0] in ("if", "while", "try", "do"):

@@ -28,6 +28,16 @@ def is_capital(text):
     return 1 <= len(text) <= 6 and consists_of(text, UPPER)
 
 
+def is_integer(value):
+    """Whether any value is an integer; a bool is none."""
+    return isinstance(value, int) and not isinstance(value, bool)
+
+
+def is_flat(value):
+    """Whether any value is a tuple of strings and integers, as each fact is."""
+    return isinstance(value, tuple) and all([isinstance(part, str) or is_integer(part) for part in value])
+
+
 def called_function(home, text):
     """The unit and the name of the function that a call in the unit home names."""
     unit, _, name = text.rpartition(".")

@@ -361,7 +361,17 @@ def call_faults(node, around, own, known):
         faults.append("L8")
     if isinstance(node.func, (ast.Subscript, ast.Constant)):
         faults.append("L3")
+    if any(isinstance(each, ast.Starred) for each in node.args) and not stars_right(node):
+        faults.append("L7")
     return faults
+
+
+def stars_right(node):
+    """Whether behind the first star of a call stand only names, attributes, literals, and lists and tuples of these."""
+    first = next(k for k, each in enumerate(node.args) if isinstance(each, ast.Starred))
+    behind = node.args[first:] + [each.value for each in node.keywords]
+    plain = (ast.Starred, ast.Name, ast.Attribute, ast.Constant, ast.List, ast.Tuple, ast.expr_context)
+    return all(isinstance(part, plain) for each in behind for part in ast.walk(each))
 
 
 def iterations(files):

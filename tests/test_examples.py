@@ -6,22 +6,73 @@ from pathlib import Path
 
 from hungfacts import errors
 
-SECTION_4 = '''\
+SECTION_4 = ('''\
 >>> from hungfacts.units import Unit, is_words
 >>> c = Unit(("ON",), "unit c\\nopen h\\ncall x k.k NONE\\ncall y b.g\\nend")
 >>> [c.name, c.opens, c.asks, c.lines[2], is_words(("ON", "NONE"))]
 ['c', (('h', 0),), (('b', 'g', 0), ('k', 'k', 1)), 'call x k.k NONE', False]
 >>> Unit(("ON",), "unit a\\nopen f p\\nset p ON\\nend")
 raises BadUnit(line=3)
-'''
+''',)
 
-SECTION_7 = '''\
+SECTION_6 = ('''\
+>>> from hungfacts.programs import Program
+>>> from hungfacts.runs import run, steps
+>>> from hungfacts.units import Unit
+>>> loop = "unit a\\nopen f p\\nlet n 0\\nwhile n < 2\\nset n n + 1\\nshow p\\nend\\n"
+>>> text = loop + "try\\nset n n * p\\ncatch e\\nshow e\\nend\\ngive n\\nend"
+>>> program, root = Program((Unit(("ON",), text),), (("a", "f"),)), ("a", "f")
+>>> [run(program, root, (3,), 9), run(program, root, ("ON",), 9), run(program, root, (3,), 3)]
+[('gave', 6, (3, 3)), ('gave', 2, ('ON', 'ON', 'BAD')), ('tired',)]
+>>> list(steps(program, root, (3,), 9))[2]
+((('a', 5),), (('n', 0), ('p', 3)))
+''',
+
+'''\
+>>> from hungfacts.programs import Program
+>>> from hungfacts.units import Unit
+>>> m = "unit m\\nopen main\\ncall x k.k ON\\ncall y b.g\\nend"
+>>> b, c = "unit b\\nopen g\\ncall x c.h\\nend", "unit c\\nopen h\\ncall x k.k NONE\\ncall y b.g\\nend"
+>>> k = "unit k\\nopen k p\\nif p is NONE\\nraise BAD\\nend\\ngive ON\\nend"
+>>> program = Program(tuple([Unit(("ON",), text) for text in (m, b, c, k)]), (("m", "main"),))
+>>> from hungfacts.runs import run
+>>> run(program, ("m", "main"), (), 9)
+('raised', 'BAD', (('k', 4), ('c', 3), ('b', 3), ('m', 4)), ())
+''',)
+
+SECTION_7 = ('''\
 >>> from hungfacts.clauses import unit_clauses
 >>> from hungfacts.units import Unit
 >>> some = unit_clauses(Unit(("ON",), "unit b\\nopen g\\ncall x c.h\\nend"))
 >>> [some[0], some[1], some[2]]
 [(('at', 'b', 3), (('called', 'b', 'g'),)), (('at', 'b', 4), (('at', 'b', 3), ('back', 'c', 'h'))), (('back', 'b', 'g'), (('gives', 'b', 'g', 'BAD'),))]
-'''
+''',)
+
+SECTION_8 = ('''\
+>>> from hungfacts.programs import Program
+>>> from hungfacts.units import Unit
+>>> m = "unit m\\nopen main\\ncall x k.k ON\\ncall y b.g\\nend"
+>>> b, c = "unit b\\nopen g\\ncall x c.h\\nend", "unit c\\nopen h\\ncall x k.k NONE\\ncall y b.g\\nend"
+>>> k = "unit k\\nopen k p\\nif p is NONE\\nraise BAD\\nend\\ngive ON\\nend"
+>>> program = Program(tuple([Unit(("ON",), text) for text in (m, b, c, k)]), (("m", "main"),))
+>>> from hungfacts.solving import facts, way
+>>> known, fault = dict(facts(program)), ("raises", "k", "k", "BAD")
+>>> [known[("called", "m", "main")], known[("at", "m", 3)], known[("called", "b", "g")], way(program, fault)[-1]]
+[1, 2, 11, (('raises', 'k', 'k', 'BAD'), (('at', 'k', 4),))]
+''',)
+
+SECTION_9 = ('''\
+>>> from hungfacts.programs import Program
+>>> from hungfacts.stages import ring
+>>> from hungfacts.units import Unit
+>>> f = "unit f\\nopen f p\\nif p is ON\\ncall y g.g ON\\nend\\nend"
+>>> g = "unit g\\nopen g p\\nif p is ON\\ncall y f.f ON\\nend\\nend"
+>>> m = "unit m\\nopen main\\ncall x f.f OFF\\nend"
+>>> program = Program(tuple([Unit(("ON", "OFF"), text) for text in (f, g, m)]), (("m", "main"),))
+>>> some = ring(program, ("flow", "worth", "need"))
+>>> [len(some), some[0], ("holds", "f", "f", "0", "ON") in some, ("no", "g", 3) in some]
+[15, ('at', 'f', 4), True, False]
+''',)
 
 
 def steps(text):
@@ -51,13 +102,18 @@ class TestExamples(unittest.TestCase):
             eval(row, names)
         self.assertEqual(vars(caught.exception), vars(expected))
 
-    def test_section_4(self):
-        self.assertEqual(len(steps(SECTION_4)), 4)
-        self.look(SECTION_4)
+    def look_at_section(self, texts, many):
+        """The examples of a section, so many rows behind >>> in each."""
+        self.assertEqual([len(steps(text)) for text in texts], many)
+        for text in texts:
+            self.look(text)
 
-    def test_section_7(self):
-        self.assertEqual(len(steps(SECTION_7)), 4)
-        self.look(SECTION_7)
+    def test_sections(self):
+        self.look_at_section(SECTION_4, [4])
+        self.look_at_section(SECTION_6, [8, 8])
+        self.look_at_section(SECTION_7, [4])
+        self.look_at_section(SECTION_8, [9])
+        self.look_at_section(SECTION_9, [9])
 
     def test_readme(self):
         readme = Path(__file__).resolve().parent.parent / "README.md"

@@ -11,7 +11,11 @@ FOLDER = Path(__file__).resolve().parent.parent / PACKAGE
 INTERFACE = {
     "units.py": {"is_words": ("value",), "Unit": ("words", "text")},
     "programs.py": {"Program": ("units", "roots")},
+    "runs.py": {name: ("program", "root", "values", "most") for name in ("run", "steps", "met")},
     "clauses.py": {"unit_clauses": ("unit",), "clauses": ("program",)},
+    "solving.py": {"facts": ("program",), "way": ("program", "fact"), "closed": ("program", "fact"),
+                   "shows_way": ("program", "fact", "value"), "shows_closed": ("program", "fact", "value")},
+    "stages.py": {"staged": ("program", "order"), "ring": ("program", "order"), "shows_ring": ("program", "value")},
 }
 METHODS = {"programs.py": {"Program": {"unit": ("self", "name")}}}
 
@@ -41,6 +45,7 @@ WRONG = [
     ("L23", "def f(a):\n    b = zip(a, a)\n    return b\n"), ("L23", "def f(a):\n    return a.items()\n"),
     ("L24", "def f(a):\n    return set(a)\n"), ("L24", "def f(a):\n    return list({x for x in a})\n"),
     ("L7", "def f(a):\n    return any(x for x in a)\n"), ("unused", "from pack.other import thing\n"),
+    ("L7", "def f(*a):\n    return f(1, *a, len(a))\n"),
     ("L3", "def f(a):\n    return T[a](1)\n\n\nT = {1: f}\n"),
 ]
 
@@ -50,7 +55,9 @@ def files_of(folder):
 
 
 def parameters(node):
-    return tuple([each.arg for each in node.args.args])
+    """The names of parameters; those that are taken by name alone stand behind a *."""
+    behind = ["*"] + [each.arg for each in node.args.kwonlyargs] if node.args.kwonlyargs else []
+    return tuple([each.arg for each in node.args.args] + behind)
 
 
 class TestPackage(unittest.TestCase):
