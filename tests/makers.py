@@ -5,16 +5,17 @@ import random
 from hungfacts.programs import Program
 from hungfacts.units import Unit
 
+KINDS = ["let", "set", "call", "call", "call", "get", "keep", "show", "show", "leave"] + ["block"] * 4
 NAMES = ("x", "y", "z", "e", "s", "let", "is")
 
 
 class ProgramMaker:
     """Makes up a program; roots are some of its open functions."""
 
-    def __init__(self, seed, many=None, size=4, deep=3, words=None, lines=(0, 60)):
+    def __init__(self, seed, many=None, size=4, deep=3, words=None, lines=(0, 60), small=0):
         self.luck = random.Random(seed)
         self.words = words or self.luck.choice([("ON",), ("ON", "OFF"), ("OFF", "ON", "A")])
-        self.size, self.deep = size, deep
+        self.size, self.deep, self.small = size, deep, small
         names = ["a", "b", "c", "d", "k", "m"][:many or self.luck.randrange(1, 5)]
         self.shared = {name: [("f", self.luck.randrange(3)), ("g", self.luck.randrange(2))][:self.luck.randrange(1, 3)]
                        for name in names}
@@ -32,11 +33,11 @@ class ProgramMaker:
     def unit_between(self, name, least, most):
         """The text of a unit with so many lines."""
         while True:
-            text = self.unit(name)
+            text = self.text_of(name)
             if least <= text.count("\n") + 1 <= most:
                 return text
 
-    def unit(self, name):
+    def text_of(self, name):
         self.cells = self.luck.sample(["c", "d"], self.luck.randrange(3))
         self.locals = [("h", self.luck.randrange(2)), ("i", 1)][:self.luck.randrange(3)]
         self.others = [(f"{other}.{function}", many) for other, functions in self.shared.items() if other != name
@@ -47,9 +48,18 @@ class ProgramMaker:
         for kind, function, many in heads:
             self.params = self.luck.sample(["p", "q", "x"], many)
             self.rows.append(" ".join([kind, function] + self.params))
-            self.part(list(self.params), self.deep, self.size + 2)
+            if self.luck.random() < self.small and kind == "open":
+                self.small_part(list(self.params))
+            else:
+                self.part(list(self.params), self.deep, self.size + 2)
             self.rows.append("end")
         return "\n".join(self.rows)
+
+    def small_part(self, scope):
+        """Up to two lets, calls and shows, then a give."""
+        for _ in range(self.luck.randrange(3)):
+            self.statement(scope, 0, ["let", "let", "call", "show"])
+        self.rows.append(f"give {self.operand(scope)}")
 
     def word(self):
         return self.luck.choice(self.words + ("NONE", "BAD"))
@@ -71,9 +81,9 @@ class ProgramMaker:
             return self.operand(scope)
         return f"{self.operand(scope)} {self.luck.choice('+-*')} {self.operand(scope)}"
 
-    def statement(self, scope, deep):
+    def statement(self, scope, deep, kinds=KINDS):
         free = [name for name in NAMES if name not in scope + self.cells]
-        kind = self.luck.choice(["let", "set", "call", "call", "call", "get", "keep", "show", "show", "leave"] + ["block"] * 4)
+        kind = self.luck.choice(kinds)
         settable = [name for name in scope if name not in self.params]
         calls = self.others + self.locals
         row = f"show {self.operand(scope)}"
@@ -109,3 +119,21 @@ class ProgramMaker:
             self.rows.append(f"catch {free[0]}")
             self.part(scope + free[:1], deep, self.size)
         self.rows.append("end")
+
+
+class UnitMaker(ProgramMaker):
+    """Makes up one unit u that calls functions of other units.
+
+    opens, asks: how many open functions it has, and how many functions of other units it may call, from
+    the first number up to below the second one. params, operands: how many of these they take, likewise.
+    """
+
+    def __init__(self, seed, opens=(1, 3), asks=(0, 4), words=("ON", "OFF"), lines=(8, 24), params=(0, 3), operands=(0, 3)):
+        self.luck = random.Random(seed)
+        self.words, self.size, self.deep, self.small = words, 4, 3, 0
+        others = [("v", "g"), ("v", "h"), ("w", "f")][:self.luck.randrange(*asks)]
+        self.shared = {"u": [(name, self.luck.randrange(*params)) for name in ("f", "g")[:self.luck.randrange(*opens)]]}
+        for home, name in others:
+            self.shared.setdefault(home, []).append((name, self.luck.randrange(*operands)))
+        self.text = self.unit_between("u", *lines)
+        self.unit = Unit(words, self.text)

@@ -335,6 +335,9 @@ def calls(files):
         if isinstance(node, ast.Attribute) and isinstance(node.ctx, ast.Load) and node.attr not in own | stored | METHODS:
             if node.attr not in DUNDERS and name != "__main__.py":
                 faults.append(("L18", name, line))
+        if isinstance(node, ast.Attribute) and isinstance(node.ctx, ast.Load) and node.attr in own - stored:
+            if not (isinstance(around[-1], ast.Call) and around[-1].func is node or isinstance(around[-1], ast.keyword)):
+                faults.append(("L25", name, line))
         if isinstance(node, ast.Call):
             faults += [(rule, name, line) for rule in call_faults(node, around, own, known[name])]
     return faults

@@ -74,6 +74,48 @@ SECTION_9 = ('''\
 [15, ('at', 'f', 4), True, False]
 ''',)
 
+SECTION_10 = ('''\
+>>> from hungfacts.summaries import summary
+>>> from hungfacts.units import Unit
+>>> found = summary(Unit(("ON",), "unit b\\nopen g\\ncall x c.h\\nend"))
+>>> [len(found), found[0], found[1]]
+[6, (('back', 'b', 'g'), ((('back', 'c', 'h'), ('called', 'b', 'g')),)), (('called', 'c', 'h'), ((('called', 'b', 'g'),),))]
+''',)
+
+SECTION_11 = ('''\
+>>> from hungfacts.parting import alike, shows_parting
+>>> from hungfacts.units import Unit
+>>> one = Unit(("ON",), "unit b\\nopen g\\ncall x c.h\\nend")
+>>> other = Unit(("ON",), "unit b\\nopen g\\ncall x c.h\\ngive x\\nend")
+>>> main = "unit main\\nopen main\\ncall y b.g\\nend"
+>>> c = "unit c\\nopen h\\ngive BAD\\nend"
+>>> [alike(one, other), shows_parting(one, other, ((main, c), ("gives", "b", "g", "BAD"), 1))]
+[False, True]
+''',)
+
+SECTION_12 = ('''\
+>>> from hungfacts.programs import Program
+>>> from hungfacts.units import Unit
+>>> m = "unit m\\nopen main\\ncall x k.k ON\\ncall y b.g\\nend"
+>>> b, c = "unit b\\nopen g\\ncall x c.h\\nend", "unit c\\nopen h\\ncall x k.k NONE\\ncall y b.g\\nend"
+>>> k = "unit k\\nopen k p\\nif p is NONE\\nraise BAD\\nend\\ngive ON\\nend"
+>>> program = Program(tuple([Unit(("ON",), text) for text in (m, b, c, k)]), (("m", "main"),))
+>>> from hungfacts.making import made
+>>> made(program, "k").text
+'unit k\\nopen k p\\nif p is NONE\\nraise BAD\\nend\\ngive NONE\\nend'
+''',
+
+'''\
+>>> from hungfacts.making import made
+>>> from hungfacts.programs import Program
+>>> from hungfacts.units import Unit
+>>> u, v = "unit u\\nopen f q\\ncall x v.g q\\nshow x\\nend", "unit v\\nopen g p\\nshow p\\ngive p\\nend"
+>>> program = Program(tuple([Unit(("ON",), text) for text in (u, v)]), (("u", "f"),))
+>>> found = made(program, "u", budget=1)
+>>> [found.text.split("\\n")[2:6], found.origins[2:5]]
+[['let x0 q', 'show x0', 'let x x0', 'show x'], ((('u', 3),), (('v', 3), ('u', 3)), (('v', 4), ('u', 3)))]
+''',)
+
 
 def steps(text):
     """The rows behind >>> of an example, each with the row that tells its result, or None."""
@@ -114,6 +156,9 @@ class TestExamples(unittest.TestCase):
         self.look_at_section(SECTION_7, [4])
         self.look_at_section(SECTION_8, [9])
         self.look_at_section(SECTION_9, [9])
+        self.look_at_section(SECTION_10, [4])
+        self.look_at_section(SECTION_11, [7])
+        self.look_at_section(SECTION_12, [8, 7])
 
     def test_readme(self):
         readme = Path(__file__).resolve().parent.parent / "README.md"

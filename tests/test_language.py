@@ -16,6 +16,11 @@ INTERFACE = {
     "solving.py": {"facts": ("program",), "way": ("program", "fact"), "closed": ("program", "fact"),
                    "shows_way": ("program", "fact", "value"), "shows_closed": ("program", "fact", "value")},
     "stages.py": {"staged": ("program", "order"), "ring": ("program", "order"), "shows_ring": ("program", "value")},
+    "summaries.py": {"inputs": ("unit",), "outputs": ("unit",), "follows": ("unit", "some"), "summary": ("unit",),
+                     "joined": ("units", "roots")},
+    "parting.py": {"alike": ("one", "other"), "parting": ("one", "other"), "shows_parting": ("one", "other", "value")},
+    "questions.py": {"answer": ("program", "question", "*", "budget")},
+    "making.py": {"made": ("program", "name", "*", "budget")},
 }
 METHODS = {"programs.py": {"Program": {"unit": ("self", "name")}}}
 
@@ -45,6 +50,7 @@ WRONG = [
     ("L23", "def f(a):\n    b = zip(a, a)\n    return b\n"), ("L23", "def f(a):\n    return a.items()\n"),
     ("L24", "def f(a):\n    return set(a)\n"), ("L24", "def f(a):\n    return list({x for x in a})\n"),
     ("L7", "def f(a):\n    return any(x for x in a)\n"), ("unused", "from pack.other import thing\n"),
+    ("L25", "class A:\n    def one(self):\n        return self.two(self.one)\n\n    def two(self, a):\n        return a\n"),
     ("L7", "def f(*a):\n    return f(1, *a, len(a))\n"),
     ("L3", "def f(a):\n    return T[a](1)\n\n\nT = {1: f}\n"),
 ]

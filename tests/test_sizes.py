@@ -23,13 +23,15 @@ def big_programs():
     return [ProgramMaker(seed, many=6, deep=6, words=("ON", "OFF", "A"), lines=(22, 25)) for seed in range(6)]
 
 
-class TestSizes(unittest.TestCase):
+class SizeTest(unittest.TestCase):
     def soon(self, look, *given):
         begun = time.process_time()
         found = look(*given)
         self.assertLess(time.process_time() - begun, SOON, look)
         return found
 
+
+class TestSizes(SizeTest):
     def test_big_programs(self):
         for maker in big_programs():
             some = maker.program

@@ -1,0 +1,40 @@
+"""Putting in the body of a function in the place of its call."""
+
+from hungfacts.forms import called_function
+from hungfacts.writing import View
+
+
+def put_in(writer, caller, words, line):
+    """Write the body of the function that this call of the caller's names, the caller being a View."""
+    asking = writer.asking
+    home, name = called_function(caller.home, words[2])
+    told = asking.ask(("body", home, name)).split(" ")
+    behind = 1 + len(words[3:])
+    origin = ((caller.home, line),)
+    view = View(home, name, tuple(told[1:behind]), origin, {})
+    for place, operand in enumerate(words[3:]):
+        if asking.is_so(("needed", home, name, str(place))):
+            put_operand(writer, view, view.params[place], writer.operand(caller, operand))
+    for at in range(len(told[behind:])):
+        # Each statement of a small function is one line.
+        put_statement(writer, view, at, int(told[0]) + 1 + at, caller.about("needed", words[1]))
+
+
+def put_operand(writer, view, param, operand):
+    writer.write(["let", writer.declared(view, param), operand], view.behind)
+
+
+def put_statement(writer, view, at, line, result):
+    """Write a statement that is put in; result is the question whether what is given is needed."""
+    asking = writer.asking
+    if not asking.is_so(("reached", view.home, line)):
+        return
+    words = asking.ask(("words", view.home, view.name, at)).split(" ")
+    if words[0] == "let":
+        writer.write_let(view, words, line)
+    elif words[0] == "call":
+        writer.write_call(view, words, line)
+    elif words[0] == "show":
+        writer.write_show(view, words, line)
+    elif asking.is_so(result):
+        writer.write(["let", result[3], writer.operand(view, words[1])], view.origin(line))
