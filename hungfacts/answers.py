@@ -52,7 +52,7 @@ class Answers:
                     found.append((home, line))
         return sorted(found)
 
-    def worths(self, home, function, spot):
+    def worths_held(self, home, function, spot):
         """The worths that a name of a function may have."""
         return [worth for worth in worths_of(self.words) if ("holds", home, function, spot, worth) in self.known]
 
@@ -76,13 +76,13 @@ def said(true):
 
 def tell_only(answers, parts):
     home, function, spot = parts
-    worths = answers.worths(home, function, spot)
+    worths = answers.worths_held(home, function, spot)
     return worths[0] if len(worths) == 1 and worths[0] != NUM else "-"
 
 
 def may_be_word(answers, home, function, operand):
     if is_name(operand):
-        return answers.worths(home, function.name, function.spot(operand)) not in ([], [NUM])
+        return answers.worths_held(home, function.name, function.spot(operand)) not in ([], [NUM])
     return not is_numeral(operand)
 
 

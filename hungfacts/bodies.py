@@ -17,24 +17,24 @@ def put_in(writer, caller, words, line):
             put_operand(writer, view, view.params[place], writer.operand(caller, operand))
     for at in range(len(told[behind:])):
         # Each statement of a small function is one line.
-        put_statement(writer, view, at, int(told[0]) + 1 + at, caller.about("needed", words[1]))
+        statement_line = int(told[0]) + 1 + at
+        if asking.is_so(("reached", home, statement_line)):
+            statement = asking.ask(("words", home, name, at)).split(" ")
+            if statement[0] != "give":
+                put_statement(writer, view, statement, statement_line)
+            elif asking.is_so(caller.about("needed", words[1])):
+                writer.write(["let", words[1], writer.operand(view, statement[1])], view.origin(statement_line))
 
 
 def put_operand(writer, view, param, operand):
     writer.write(["let", writer.declared(view, param), operand], view.behind)
 
 
-def put_statement(writer, view, at, line, result):
-    """Write a statement that is put in; result is the question whether what is given is needed."""
-    asking = writer.asking
-    if not asking.is_so(("reached", view.home, line)):
-        return
-    words = asking.ask(("words", view.home, view.name, at)).split(" ")
+def put_statement(writer, view, words, line):
+    """Write a statement that is put in, ahead of the give."""
     if words[0] == "let":
         writer.write_let(view, words, line)
     elif words[0] == "call":
         writer.write_call(view, words, line)
-    elif words[0] == "show":
+    else:
         writer.write_show(view, words, line)
-    elif asking.is_so(result):
-        writer.write(["let", result[3], writer.operand(view, words[1])], view.origin(line))

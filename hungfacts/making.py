@@ -50,7 +50,8 @@ class Maker:
     def go_through(self):
         if not self.asking.is_so(("called", self.source.name, self.function.name)):
             return
-        self.writer.used = {name: True for name, _ in self.source.cells}
+        self.writer.begin()
+        self.writer.use([name for name, _ in self.source.cells])
         for line in self.source.lines[self.function.line - 1:self.function.last]:
             self.writer.use(line.split(" "))
         self.write_as_it_is(self.function.line)
@@ -66,23 +67,30 @@ class Maker:
                 action(self, row)
             line = row.last + 1
 
+    def first_part(self, row):
+        self.part(row.line + 1, row.middle or row.last)
+
+    def second_part(self, row):
+        if row.middle:
+            self.part(row.middle + 1, row.last)
+
     def whole(self, row, words):
         """Write a statement with all its lines, the first one with these words."""
         self.write(words, row.line)
-        self.part(row.line + 1, row.middle or row.last)
+        self.first_part(row)
         if row.middle:
             self.write_as_it_is(row.middle)
-            self.part(row.middle + 1, row.last)
+            self.second_part(row)
         self.write_as_it_is(row.last)
 
     def in_do(self, row, second):
         """Write what is left of the first or second part between do and end, if anything is left."""
         rows = self.writer.rows
         ahead = len(rows)
-        if not second:
-            self.part(row.line + 1, row.middle or row.last)
-        elif row.middle:
-            self.part(row.middle + 1, row.last)
+        if second:
+            self.second_part(row)
+        else:
+            self.first_part(row)
         if len(rows) > ahead:
             rows.insert(ahead, ("do", self.view.origin(row.line)))
             self.write_as_it_is(row.last)

@@ -56,7 +56,7 @@ def steps(program, root, values, most):
     """Yield (places, names) for each statement to which the run comes."""
     going = begun(program, root, values, most)
     while going.outcome is None:
-        yield going.where(), going.names_here()
+        yield (going.where(), going.names_here())
         do_next(going)
 
 

@@ -52,7 +52,7 @@ def is_clause(value, found):
 
 def shows_way(program, fact, value):
     """Whether any value is a way to any value as fact."""
-    if not is_flat(fact) or not isinstance(value, tuple) or not value:
+    if not isinstance(value, tuple) or not value:
         return False
     found = {clause: True for clause in clauses(program)}
     ahead = {}

@@ -7,7 +7,6 @@ from hungfacts.solving import is_ascending
 
 FLOW = ("at", "yes", "no", "called", "back", "raises")
 WORTH = ("holds", "keeps", "gives")
-NEED = ("needs", "wants", "reads")
 SORTS = ("flow", "worth", "need")
 
 
@@ -19,7 +18,7 @@ def sort_of(fact):
 
 def is_order(value):
     """Whether any value is a tuple with the three sorts."""
-    if not isinstance(value, tuple) or len(value) != 3 or not all([isinstance(part, str) for part in value]):
+    if not isinstance(value, tuple) or not all([isinstance(part, str) for part in value]):
         return False
     return sorted(value) == sorted(SORTS)
 

@@ -53,6 +53,10 @@ class Writer:
         self.rows = []
         self.used = {}
 
+    def begin(self):
+        """Begin with a function, none of whose words is used yet."""
+        self.used = {}
+
     def use(self, words):
         for word in words:
             self.used[word] = True

@@ -21,7 +21,7 @@ class ProgramMaker:
                        for name in names}
         self.texts = [self.unit_between(name, *lines) for name in names]
         every = [(name, function) for name in names for function, _ in self.shared[name]]
-        self.roots = tuple(sorted(self.luck.sample(every, self.luck.randrange(1, min(3, len(every)) + 1))))
+        self.roots = tuple(sorted(self.luck.sample(every, self.luck.randrange((len(every) + 1) // 2, len(every) + 1))))
         self.program = Program(tuple([Unit(self.words, text) for text in self.texts]), self.roots)
 
     def many_of(self, root):
@@ -46,6 +46,8 @@ class ProgramMaker:
         self.luck.shuffle(heads)
         self.rows = [f"unit {name}"] + [f"cell {cell} {self.word()}" for cell in self.cells]
         for kind, function, many in heads:
+            # Most calls lead on to later units, so that they come back.
+            self.calls = [each for each in self.others if each[0] > name] + self.locals * (kind == "open")
             self.params = self.luck.sample(["p", "q", "x"], many)
             self.rows.append(" ".join([kind, function] + self.params))
             if self.luck.random() < self.small and kind == "open":
@@ -67,25 +69,33 @@ class ProgramMaker:
     def operand(self, scope):
         return self.luck.choice(scope + scope + scope + [self.word(), str(self.luck.randrange(-3, 4))])
 
+    def number(self, scope):
+        """An operand that may be an integer, most times."""
+        if self.luck.random() < 0.1:
+            return self.operand(scope)
+        return self.luck.choice(scope + scope + [str(self.luck.randrange(-3, 4))])
+
     def test(self, scope):
         if self.luck.random() < 0.6:
-            return f"{self.operand(scope)} is {self.word()}"
-        return f"{self.operand(scope)} < {self.operand(scope)}"
+            return f"{self.luck.choice(scope) if scope else self.operand(scope)} is {self.word()}"
+        return f"{self.number(scope)} < {self.number(scope)}"
 
     def part(self, scope, deep, most):
-        for _ in range(self.luck.randrange(most)):
+        for _ in range(self.luck.choice([0] + list(range(1, most)) * 2)):
             self.statement(scope, deep)
+        if self.luck.random() < 0.3 or deep == self.deep and self.luck.random() < 0.5:
+            self.rows.append(f"{self.luck.choice(['give', 'give', 'raise'])} {self.operand(scope)}")
 
     def term(self, scope):
         if self.luck.random() < 0.6:
             return self.operand(scope)
-        return f"{self.operand(scope)} {self.luck.choice('+-*')} {self.operand(scope)}"
+        return f"{self.number(scope)} {self.luck.choice('+-*')} {self.number(scope)}"
 
     def statement(self, scope, deep, kinds=KINDS):
         free = [name for name in NAMES if name not in scope + self.cells]
         kind = self.luck.choice(kinds)
         settable = [name for name in scope if name not in self.params]
-        calls = self.others + self.locals
+        calls = self.calls if self.luck.random() < 0.9 else self.others + self.locals
         row = f"show {self.operand(scope)}"
         if kind == "let" and free:
             row = f"let {free[0]} {self.term(scope)}"
@@ -98,7 +108,7 @@ class ProgramMaker:
             row = f"get {free[0]} {self.luck.choice(self.cells)}"
         elif kind == "keep" and self.cells:
             row = f"keep {self.luck.choice(self.cells)} {self.operand(scope)}"
-        elif kind == "leave":
+        elif kind == "leave" and self.luck.random() < 0.3:
             row = f"{self.luck.choice(['give', 'give', 'raise'])} {self.operand(scope)}"
         elif kind == "block" and deep:
             self.block(scope, deep - 1, free)
