@@ -87,8 +87,6 @@ def slot(levels, has, but):
 
 def least_ways(kept, avoided, spots):
     """The least sets of spots that have all of kept, and for each avoided one another one."""
-    if len(kept) > 1:
-        return [kept]
     if kept and avoided:
         return [tuple(sorted((kept[0], one))) for one in spots if one != kept[0]]
     if kept:

@@ -71,6 +71,20 @@ class TestStatements(MadeTest):
         self.assertEqual(self.made(texts, roots=(("a", "f"), ("a", "x1"))).text, spread(
             "unit a / open f p / let x1 p + 1 / let x3 p + 1 / end / open x1 / let x3 BAD + 1 / end"))
 
+    def test_fresh_names_and_words_of_lines_that_are_left_out(self):
+        self.look("let x0 1 / let y 1 / set y p + 1", "let x1 p + 1")
+        self.look("let y 1 / set y p + 1 / do / let x1 2 / let x0 2 / end", "let x2 p + 1")
+        self.look("let y 1 / set y p + 1", "let x1 p + 1", params="p x0")
+        for text in ("unit x0 / open f p / let x 1 / set x p + 1 / end", "unit x0 / open f p / let x 1 / set x p + 1 / end / local x0 / end",
+                     "unit x0 / local l x0 / end / open f p / let x 1 / set x p + 1 / end"):
+            found = self.made((text,), "x0", (("x0", "f"),))
+            self.assertEqual(found.text, spread("unit x0 / open f p / let x0 p + 1 / end"))
+
+    def test_without_a_budget_nothing_is_put_in(self):
+        some = program(("unit a / open f / call x b.g / end", "unit b / open g / give 1 / end"), ROOTS)
+        self.assertEqual(made(some, "a").text, spread("unit a / open f / call x b.g / end"))
+        self.assertEqual(made(some, "a", budget=1).text, spread("unit a / open f / end"))
+
     def test_fresh_names_of_each_function(self):
         text = "unit a / open f p / let x 1 / set x p + 1 / end / open g p / let x 1 / set x p + 2 / end"
         self.assertEqual(self.made((text,), roots=(("a", "f"), ("a", "g"))).text, spread(

@@ -85,6 +85,28 @@ class TestEditions(unittest.TestCase):
         self.look_at_bodies("if p is ON / if p is OFF / show q / end / end", "show 1", False)
         self.look_at_bodies("if p is ON / else / if p is OFF / else / show q / end / end", "if p is ON / else / show q / end", False)
 
+    def test_what_holds_and_gives_include(self):
+        for test in ("x is ON", "p is ON", "e is ON", "x is BAD", "q is OFF"):
+            head = "try / call x v.g p / catch e / end" if test[0] == "e" else "call x v.g p"
+            inner = "try / call x v.g p / if {} / show p / end / catch e / if {} / show q / end / end"
+            self.look_at_bodies(f"{head} / show p", f"call x v.g p / if {test.replace('e is', 'x is')} / show p / end", False)
+            self.look_at_bodies(inner.format("0 < 1", test.replace("x is", "e is")), inner.format(test.replace("e is", "x is"), "0 < 1"), False)
+            self.look_at_bodies(f"if {test.replace('x is', 'p is').replace('e is', 'q is')} / show q / end", "show q", False)
+
+    def test_needs_alone(self):
+        one = "call k v.g 0 / call x v.g p"
+        other = "call k v.g 0 / if p is ON / call x v.g ON / end / if p is NONE / call z v.g NONE / end / if p is BAD / call s v.g BAD / end"
+        self.look_at_bodies(one, other, False, ("ON",))
+        found = parting(unit(f"unit u / open f p / {one} / end"), unit(f"unit u / open f p / {other} / end"))
+        self.assertEqual(found[1:], (fact("needs u f 0"), 0))
+
+    def test_wants_alone(self):
+        other = " / ".join([f"if 0 < 1 / if p is {word} / give {word} / end / end" for word in ("ON", "NONE", "BAD")])
+        texts = [f"unit u / open f p / {text} / give 0 / end" for text in ("if 0 < 1 / give p / end", other)]
+        self.look(unit(texts[0]), unit(texts[1]), False)
+        self.assertEqual(parting(unit(texts[0]), unit(texts[1]))[1:], (fact("needs u f 0"), 0))
+        self.look(unit(texts[0].replace("give", "keep c", 1).replace("u /", "u / cell c ON /", 1)), unit(texts[0]), False)
+
     def test_functions_through_cells(self):
         texts = ("unit u / cell c {} / open f p / keep c p / end / open g / get x c / give x / end",
                  "unit u / cell c {} / open f p / end / open g / get x c / give x / end")

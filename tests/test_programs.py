@@ -4,6 +4,7 @@ from hungfacts.errors import BadRoots, BadUnits, NoFunction, NoUnit
 from hungfacts.programs import Program
 from hungfacts.units import Unit
 from tests.helper import program, unit
+from tests.kinds import KINDS, UNIT
 
 A = "unit a / open f p / call x b.g p / end / open h / end / local l / end"
 B = "unit b / cell c ON / open g p / call x a.h / end"
@@ -26,7 +27,7 @@ class TestProgram(unittest.TestCase):
         found = Program((self.a, self.b), ROOT)
         self.assertEqual(found.unit("b"), self.b)
         self.assertEqual(found.unit(name="a"), self.a)
-        for value in ("c", "", "f", None, 0, 1, True, ("a",), ["a"], {"a": 1}, self.a, [self.a], found):
+        for value in [value for value in KINDS if value != "a"] + ["c", "f", "aa", "A", ["a"], {"a": 1}, self.a, [self.a], found]:
             with self.subTest(repr(value)):
                 with self.assertRaises(NoUnit) as caught:
                     found.unit(value)
@@ -48,7 +49,7 @@ class TestProgram(unittest.TestCase):
         other = Unit(("ON", "OFF"), B.replace(" / ", "\n"))
         turned = Unit(("OFF", "ON"), B.replace(" / ", "\n"))
         for value in ((), [], [a, b], a, None, 0, "a", {}, (a, None), (a, "unit b"), ((a, b),), (a, a), (a, b, unit(B)),
-                      (a, other), (other, turned), (other, a), (a, [b])):
+                      (a, other), (other, turned), (other, a), (a, [b])) + tuple([(a, each) for each in KINDS if each != UNIT]):
             for roots in (ROOT, None, ()):
                 with self.subTest(repr(value)):
                     with self.assertRaises(BadUnits) as caught:
@@ -60,7 +61,7 @@ class TestProgram(unittest.TestCase):
                       (("a", 1),), ((None, "f"),), (("a", "f"), None), (("a", "l"),), (("a", "x"),), (("c", "f"),),
                       (("b", "f"),), (("a", "g"),), (("b", "g"), ("a", "f")), (("a", "f"), ("a", "f")),
                       (("a", "h"), ("a", "f")), (("a", "f"), ("a", "l")), ("af",), {("a", "f"): 1}, (("a", ["f"]),),
-                      (("a", "f"), (0, "f")), self.a, (self.a,)):
+                      (("a", "f"), (0, "f")), self.a, (self.a,)) + tuple([(("a", "f"), each) for each in KINDS]):
             with self.subTest(repr(value)):
                 with self.assertRaises(BadRoots) as caught:
                     Program((self.a, self.b), value)
