@@ -12,7 +12,7 @@ from hungfacts.surroundings import texts_around
 from hungfacts.units import Unit
 
 MAIN = "main"
-ROOTS = ((MAIN, MAIN),)
+ROOTS = (("main", "main"),)
 
 
 def all_asks(one, other):

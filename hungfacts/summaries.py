@@ -52,8 +52,8 @@ def is_possible(unit, held):
 
 def follows(unit, some):
     """The ascending tuple of the outputs that follow from a possible set of inputs."""
-    known = {fact: True for fact in inputs(unit)}
-    if not is_ascending(some, known) or not is_possible(unit, {fact: True for fact in some}):
+    every = {fact: True for fact in inputs(unit)}
+    if not is_ascending(some, every) or not is_possible(unit, {fact: True for fact in some}):
         raise BadInputs(some)
     known = least(list(unit_clauses(unit)) + [(fact, ()) for fact in some])
     return tuple([fact for fact in outputs(unit) if fact in known])

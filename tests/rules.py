@@ -178,6 +178,9 @@ def module_level(files):
             if plain and any(isinstance(each, (ast.Call, ast.ListComp, ast.SetComp, ast.DictComp, ast.Set, ast.Lambda))
                              for each in ast.walk(node)):
                 faults.append(("L3", name, node.lineno))
+            functions = {each.name for each in body if isinstance(each, ast.FunctionDef) and each.lineno < node.lineno}
+            if plain and any(isinstance(each, ast.Name) and each.id not in functions for each in ast.walk(node.value)):
+                faults.append(("L3", name, node.lineno))
     return faults
 
 
@@ -401,8 +404,31 @@ def iterations(files):
     return faults
 
 
+def generators(files):
+    """Functions that yield: under no try and no with, with a name that no other function has, called in loops and the like."""
+    faults, defined_names, yielding = [], [], set()
+    for name, node, around in nodes(files):
+        if isinstance(node, ast.FunctionDef):
+            defined_names.append(node.name)
+        if isinstance(node, (ast.Yield, ast.YieldFrom)):
+            inner = [each for each in around if isinstance(each, ast.FunctionDef)][-1]
+            yielding.add(inner.name)
+            if any(isinstance(each, (ast.Try, ast.With)) for each in around) or not isinstance(around[-1], ast.Expr):
+                faults.append(("L23", name, node.lineno))
+    takers = ("list", "tuple", "dict", "sorted", "sum", "any", "all", "enumerate", "min", "max")
+    for name, node, around in nodes(files):
+        if isinstance(node, ast.FunctionDef) and node.name in yielding and defined_names.count(node.name) > 1:
+            faults.append(("L23", name, node.lineno))
+        if isinstance(node, ast.Name) and node.id in yielding:
+            call, above = around[-1], around[-2]
+            looped = isinstance(above, (ast.For, ast.comprehension)) and above.iter is call or isinstance(above, ast.YieldFrom)
+            if not (isinstance(call, ast.Call) and call.func is node) or not (looped or called(above) in takers):
+                faults.append(("L23", name, node.lineno))
+    return faults
+
+
 def faults_of(files, package):
-    looks = (sizes, file_names, module_level, names, words, strings, statements, calls, iterations)
+    looks = (sizes, file_names, module_level, names, words, strings, statements, calls, iterations, generators)
     found = [fault for look in looks for fault in look(files)]
     return found + imports(files, package)
 
