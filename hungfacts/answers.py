@@ -5,7 +5,9 @@ Each function of the table here takes the Answers and the parts of a question be
 
 from hungfacts.errors import BadBudget
 from hungfacts.forms import NUM, called_function, is_integer, is_name, is_numeral
+from hungfacts.memory import recalled
 from hungfacts.sites import worths_of
+from hungfacts.solving import known_facts
 
 MOST_BUDGET = 99
 # The fact about which a question asks that takes over all of its other parts.
@@ -31,8 +33,8 @@ def is_small(function):
 class Answers:
     """The answers of a program; known has its facts as keys."""
 
-    def __init__(self, program, known, budget):
-        self.known = known
+    def __init__(self, program, budget):
+        self.known = known_facts(program)
         self.words = program.words
         self.functions = {}
         self.lines = {}
@@ -68,6 +70,16 @@ class Answers:
             return said((FACTS[question[0]],) + parts in self.known)
         telling = TELLING[question[0]]
         return telling(self, parts)
+
+
+def work_out_answers(program, budget):
+    return Answers(program, budget)
+
+
+def answers_of(program, budget):
+    """The Answers of a program; raises BadBudget."""
+    check_budget(budget)
+    return recalled(program, work_out_answers, budget)
 
 
 def said(true):

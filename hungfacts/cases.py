@@ -4,6 +4,7 @@ from hungfacts.clauses import unit_clauses
 from hungfacts.deriving import watched
 from hungfacts.diagrams import ALWAYS, NEVER, Diagrams
 from hungfacts.groups import groups_of
+from hungfacts.parts import Choice
 
 
 class Cases:
@@ -82,7 +83,7 @@ class Cases:
         part = group.parts[at]
         left = []
         found = []
-        for choice in part.choices:
+        for choice in self._choices(node, part):
             left.append(self._with_choice(node, part, choice))
             if left[-1] == NEVER or any([left[each] == left[-1] for each in choice.weaker]):
                 continue
@@ -94,6 +95,16 @@ class Cases:
                 if (own, others) not in known:
                     found.append((choice.conditions + own, others))
         return found
+
+    def _choices(self, node, part):
+        """The choices of a part that may tell anything apart."""
+        asked = self.diagrams.asked(node, part.last)
+        if part.but and all([level in asked for level in part.levels]):
+            # Where it does not matter which inputs of a slot are there, none needs to be asked for.
+            every = self.diagrams.given(node, part.last, part.levels)
+            if all([self.diagrams.given(node, part.last, (level,)) == every for level in part.levels]):
+                return [Choice((), [part.levels], [])]
+        return part.choices(asked)
 
     def _with_choice(self, node, part, choice):
         """What is left of a function if a part is met in any of the least ways of a choice."""

@@ -1,6 +1,7 @@
 """The clauses of units and programs."""
 
 from hungfacts.forms import NUM, called_function
+from hungfacts.memory import recalled
 from hungfacts.sites import Site, worths_of
 
 
@@ -165,25 +166,39 @@ def of_root(program, root):
     return found
 
 
+def in_order(premises):
+    """An ascending tuple of some premises, each once; most clauses have one or two."""
+    if len(premises) < 2 or len(premises) == 2 and premises[0] < premises[1]:
+        return tuple(premises)
+    return tuple(sorted(set(premises)))
+
+
 def ordered(found):
     """Clauses in the form of the document, ascending, each once."""
-    clean = [(fact, tuple(sorted(set(premises)))) for fact, premises in found]
-    return tuple(sorted(set(clean)))
+    return tuple(sorted({(fact, in_order(premises)) for fact, premises in found}))
 
 
-def unit_clauses(unit):
-    """The ascending tuple of the clauses of a unit."""
+def work_out_unit(unit):
     found = [(("keeps", unit.name, cell, word), []) for cell, word in unit.cells]
     for function in unit.functions:
         found += of_function(unit, function)
     return ordered(found)
 
 
-def clauses(program):
-    """The ascending tuple of the clauses of all units of a program, and of its roots."""
+def work_out_program(program):
     found = []
     for unit in program.units:
-        found += list(unit_clauses(unit))
+        found += unit_clauses(unit)
     for root in program.roots:
         found += of_root(program, root)
     return ordered(found)
+
+
+def unit_clauses(unit):
+    """The ascending tuple of the clauses of a unit."""
+    return recalled(unit, work_out_unit)
+
+
+def clauses(program):
+    """The ascending tuple of the clauses of all units of a program, and of its roots."""
+    return recalled(program, work_out_program)

@@ -80,3 +80,18 @@ class Diagrams:
         while self.levels[node] <= last:
             node = self.highs[node] if self.levels[node] in present else self.lows[node]
         return node
+
+    def asked(self, node, last):
+        """The levels up to the level last for whose inputs a function asks, as keys."""
+        found = {}
+        seen = {node: True}
+        waiting = [node]
+        while waiting:
+            node = waiting.pop()
+            if self.levels[node] <= last:
+                found[self.levels[node]] = True
+                for each in (self.lows[node], self.highs[node]):
+                    if each not in seen:
+                        seen[each] = True
+                        waiting.append(each)
+        return found

@@ -1,7 +1,7 @@
 """The inputs of a unit, in groups of which each has one input that all others of it need."""
 
-from hungfacts.conditions import single, slot
 from hungfacts.forms import FIXED
+from hungfacts.parts import Part
 from hungfacts.sites import worths_of
 
 
@@ -22,12 +22,12 @@ class Group:
 def group_of_opened(first, words, called, many):
     """The group of an open function of the unit itself, with so many parameters."""
     inputs = [("called", *called), ("wants", *called)]
-    parts = [single(first + 1, ("wants", *called))]
+    parts = [Part([first + 1], [("wants", *called)], [])]
     for place in range(many):
         has = [("holds", *called, str(place), worth) for worth in worths_of(words)]
         but = [("unlike", *called, str(place), worth) for worth in worths_of(words)]
         at = first + len(inputs)
-        parts.append(slot(list(range(at, at + len(has))), has, but))
+        parts.append(Part(list(range(at, at + len(has))), has, but))
         inputs += has
     return Group(first, inputs, parts)
 
@@ -37,7 +37,7 @@ def group_of_given(first, words, called):
     has = [("gives", *called, worth) for worth in worths_of(words)]
     but = [("other", *called, worth) for worth in worths_of(words)]
     levels = list(range(first + 1, first + 1 + len(has)))
-    return Group(first, [("back", *called)] + has, [slot(levels, has, but)])
+    return Group(first, [("back", *called)] + has, [Part(levels, has, but)])
 
 
 def groups_of(unit):

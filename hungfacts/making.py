@@ -1,9 +1,8 @@
 """Making units: shorter ones that mean the same, by the facts of their program."""
 
-from hungfacts.answers import Answers, check_budget
+from hungfacts.answers import answers_of, check_budget
 from hungfacts.bodies import put_in
-from hungfacts.clauses import clauses
-from hungfacts.deriving import least
+from hungfacts.memory import recalled
 from hungfacts.writing import Asking, View, Writer
 
 
@@ -173,9 +172,9 @@ STATEMENTS = {
 }
 
 
-def made_by(answers, unit):
-    """The Made of a unit by these answers."""
-    asking = Asking(answers)
+def work_out_made(program, name, budget):
+    unit = program.unit(name)
+    asking = Asking(answers_of(program, budget))
     writer = Writer(asking)
     writer.write(["unit", unit.name], ((unit.name, 1),))
     for at, (name, word) in enumerate(unit.cells):
@@ -191,4 +190,5 @@ def made(program, name, *, budget=0):
     """The Made of the unit of this name."""
     unit = program.unit(name)
     check_budget(budget)
-    return made_by(Answers(program, least(clauses(program)), budget), unit)
+    found = recalled(program, work_out_made, unit.name, budget)
+    return Made(found.text, found.origins, found.asked)

@@ -1,12 +1,12 @@
 """Whether any surrounding can tell two editions of a unit apart, and one that does."""
 
-from hungfacts.clauses import clauses
-from hungfacts.conditions import least_ways, with_included
-from hungfacts.deriving import least
+from hungfacts.conditions import with_included
 from hungfacts.errors import BadRoots, BadUnit, BadUnits, NoFunction, NoRoom, NotEditions
 from hungfacts.forms import is_flat, is_integer
+from hungfacts.parts import least_ways
 from hungfacts.programs import Program
 from hungfacts.sites import worths_of
+from hungfacts.solving import known_facts
 from hungfacts.summaries import outputs, summary
 from hungfacts.surroundings import texts_around
 from hungfacts.units import Unit
@@ -118,5 +118,5 @@ def shows_parting(one, other, value):
     programs = [program_around(unit, texts) for unit in (one, other)]
     if any([program is None for program in programs]):
         return False
-    known = [fact in least(clauses(program)) for program in programs]
+    known = [fact in known_facts(program) for program in programs]
     return known[which] and not known[1 - which]

@@ -6,7 +6,10 @@ from hungfacts.units import Unit
 
 
 class Program:
-    """Units with the same words, and the open functions with which runs may begin."""
+    """Units with the same words, and the open functions with which runs may begin.
+
+    Beyond what the interface names: memory, what was worked out about it.
+    """
 
     def __init__(self, units, roots):
         if not are_units(units):
@@ -20,6 +23,7 @@ class Program:
         call = call_of_nothing(self.units)
         if call is not None:
             raise NoFunction(call)
+        self.memory = {}
 
     def unit(self, name):
         """The unit of this name; raises NoUnit."""

@@ -1,8 +1,6 @@
 """Questions about the facts of a program, by which its units are made."""
 
-from hungfacts.answers import Answers, check_budget
-from hungfacts.clauses import clauses
-from hungfacts.deriving import least
+from hungfacts.answers import answers_of
 from hungfacts.errors import BadQuestion
 from hungfacts.forms import is_integer
 
@@ -41,5 +39,4 @@ def answer(program, question, *, budget=0):
     """The answer of a question."""
     if not is_question(question):
         raise BadQuestion(question)
-    check_budget(budget)
-    return Answers(program, least(clauses(program)), budget).tell(question)
+    return answers_of(program, budget).tell(question)

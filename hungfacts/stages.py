@@ -3,7 +3,8 @@
 from hungfacts.clauses import clauses
 from hungfacts.deriving import least
 from hungfacts.errors import BadOrder
-from hungfacts.solving import is_ascending
+from hungfacts.memory import recalled
+from hungfacts.solving import heads, is_ascending, known_facts
 
 FLOW = ("at", "yes", "no", "called", "back", "raises")
 WORTH = ("holds", "keeps", "gives")
@@ -40,10 +41,13 @@ def solved(part, held):
     return least(standing)
 
 
-def staged_found(found, order):
-    """What staged returns, for the clauses of a program."""
-    parts = parted(found)
-    held = {fact: True for fact, _ in found}
+def work_out_parts(program):
+    return parted(clauses(program))
+
+
+def work_out_staged(program, order):
+    parts = recalled(program, work_out_parts)
+    held = heads(program)
     many = 0
     changed = True
     while changed:
@@ -61,29 +65,24 @@ def staged(program, order):
     """(how many times the order was gone through, the ascending tuple of what holds then)."""
     if not is_order(order):
         raise BadOrder(order)
-    return staged_found(clauses(program), order)
+    return recalled(program, work_out_staged, order)
 
 
 def ring(program, order):
     """The ascending tuple of what staged takes as holding, though it is no fact of the program."""
-    if not is_order(order):
-        raise BadOrder(order)
-    found = clauses(program)
-    known = least(found)
-    _, held = staged_found(found, order)
+    _, held = staged(program, order)
+    known = known_facts(program)
     return tuple([fact for fact in held if fact not in known])
 
 
 def shows_ring(program, value):
     """Whether any value is a ring: facts of clauses that hold one another up, none a fact of the program."""
-    found = clauses(program)
-    known = least(found)
-    heads = {head: True for head, _ in found}
-    if not is_ascending(value, heads) or any([fact in known for fact in value]):
+    known = known_facts(program)
+    if not is_ascending(value, heads(program)) or any([fact in known for fact in value]):
         return False
     inside = {fact: True for fact in value}
     held_up = {}
-    for head, premises in found:
+    for head, premises in clauses(program):
         if head in inside and all([each in known or each in inside for each in premises]):
             held_up[head] = True
     return len(held_up) == len(inside)

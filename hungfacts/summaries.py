@@ -3,22 +3,26 @@
 from hungfacts.cases import Cases
 from hungfacts.clauses import of_root, unit_clauses
 from hungfacts.conditions import included
-from hungfacts.deriving import least
+from hungfacts.deriving import Net, least
 from hungfacts.errors import BadInputs
 from hungfacts.forms import FIXED
 from hungfacts.groups import groups_of
+from hungfacts.memory import recalled
 from hungfacts.programs import Program
 from hungfacts.sites import worths_of
 from hungfacts.solving import is_ascending
 
 
-def inputs(unit):
-    """The ascending tuple of the inputs of a unit."""
+def work_out_inputs(unit):
     return tuple(sorted([fact for group in groups_of(unit) for fact in group.inputs]))
 
 
-def outputs(unit):
-    """The ascending tuple of the outputs of a unit."""
+def inputs(unit):
+    """The ascending tuple of the inputs of a unit."""
+    return recalled(unit, work_out_inputs)
+
+
+def work_out_outputs(unit):
     found = []
     for name, many in unit.opens:
         called = (unit.name, name)
@@ -31,6 +35,11 @@ def outputs(unit):
         for place in range(many):
             found += [("holds", home, name, str(place), worth) for worth in worths_of(unit.words)]
     return tuple(sorted(found))
+
+
+def outputs(unit):
+    """The ascending tuple of the outputs of a unit."""
+    return recalled(unit, work_out_outputs)
 
 
 def is_possible(unit, held):
@@ -50,17 +59,24 @@ def is_possible(unit, held):
     return True
 
 
+def work_out_input_keys(unit):
+    return {fact: True for fact in inputs(unit)}
+
+
+def work_out_net(unit):
+    return Net(unit_clauses(unit))
+
+
 def follows(unit, some):
     """The ascending tuple of the outputs that follow from a possible set of inputs."""
-    every = {fact: True for fact in inputs(unit)}
+    every = recalled(unit, work_out_input_keys)
     if not is_ascending(some, every) or not is_possible(unit, {fact: True for fact in some}):
         raise BadInputs(some)
-    known = least(list(unit_clauses(unit)) + [(fact, ()) for fact in some])
+    known = recalled(unit, work_out_net).least(some)
     return tuple([fact for fact in outputs(unit) if fact in known])
 
 
-def summary(unit):
-    """The ascending tuple of (output, cases): all least cases that lead to each output."""
+def work_out_summary(unit):
     cases = Cases(unit)
     found = []
     for output in outputs(unit):
@@ -68,6 +84,11 @@ def summary(unit):
         if of_output:
             found.append((output, of_output))
     return tuple(found)
+
+
+def summary(unit):
+    """The ascending tuple of (output, cases): all least cases that lead to each output."""
+    return recalled(unit, work_out_summary)
 
 
 def joined(units, roots):

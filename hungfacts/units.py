@@ -18,7 +18,7 @@ class Unit:
     """A unit, read from its text.
 
     Beyond what the interface names: cells, a (name, first value) for each, and functions, the
-    Function of each, both in the order of their lines.
+    Function of each, both in the order of their lines; memory, what was worked out about it.
     """
 
     def __init__(self, words, text):
@@ -35,6 +35,7 @@ class Unit:
         self.functions = tuple(list(read.functions.values()))
         self.opens = tuple(sorted([(each.name, len(each.params)) for each in self.functions if each.shared]))
         self.asks = tuple(sorted([called + (many,) for called, many in read.asked.items()]))
+        self.memory = {}
 
     def __eq__(self, other):
         return isinstance(other, Unit) and self.words == other.words and self.text == other.text
