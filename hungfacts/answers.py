@@ -31,9 +31,14 @@ def is_small(function):
 
 
 class Answers:
-    """The answers of a program; known has its facts as keys."""
+    """The answers of a program.
+
+    known: its facts, as keys. functions: the Function of each (unit, name). lines: for each (unit, line)
+    behind the first line of a function and ahead of its end this Function and the Row.
+    """
 
     def __init__(self, program, budget):
+        self.program = program
         self.known = known_facts(program)
         self.words = program.words
         self.functions = {}
@@ -62,6 +67,16 @@ class Answers:
         """The function and the row of a line that begins with one of these words, or None."""
         found = self.lines.get((home, line))
         return found if found is not None and found[1].words[0] in heads else None
+
+    def is_statement(self, home, line):
+        """Whether any two values are the unit and the line of a statement."""
+        if not isinstance(home, str) or not is_integer(line):
+            return False
+        found = self.lines.get((home, line))
+        return found is not None and found[1].block is None
+
+    def is_so(self, question):
+        return self.tell(question) == "yes"
 
     def tell(self, question):
         """The answer of a question that has one of the right forms."""

@@ -12,6 +12,7 @@ def put_in(writer, caller, words, line):
     behind = 1 + len(words[3:])
     origin = ((caller.home, line),)
     view = View(home, name, tuple(told[1:behind]), origin, {})
+    writer.renamed[line] = view.renamed
     for place, operand in enumerate(words[3:]):
         if asking.is_so(("needed", home, name, str(place))):
             put_operand(writer, view, view.params[place], writer.operand(caller, operand))
@@ -27,7 +28,7 @@ def put_in(writer, caller, words, line):
 
 
 def put_operand(writer, view, param, operand):
-    writer.write(["let", writer.declared(view, param), operand], view.behind)
+    writer.write(["let", writer.declared(view, param), operand], view.tail)
 
 
 def put_statement(writer, view, words, line):

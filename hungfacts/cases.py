@@ -17,7 +17,7 @@ class Cases:
         self.functions = {}
         for group in groups:
             for at, fact in enumerate(group.inputs):
-                self.functions[fact] = self.diagrams.asking(group.first + at)
+                self.functions[fact] = self.diagrams.needing(group.first + at)
         self._solve(unit_clauses(unit))
         self.known = {}
         self.known_parts = {}
@@ -98,7 +98,7 @@ class Cases:
 
     def _choices(self, node, part):
         """The choices of a part that may tell anything apart."""
-        asked = self.diagrams.asked(node, part.last)
+        asked = self.diagrams.levels_asked(node, part.last)
         if part.but and all([level in asked for level in part.levels]):
             # Where it does not matter which inputs of a slot are there, none needs to be asked for.
             every = self.diagrams.given(node, part.last, part.levels)

@@ -159,10 +159,10 @@ def of_function(unit, function):
 def of_root(program, root):
     """The clauses of a root: it is called, with whatever values."""
     many = dict(program.unit(root[0]).opens)[root[1]]
-    found = [(("called", *root), []), (("wants", *root), [])]
+    found = [(("called", *root), ()), (("wants", *root), ())]
     for place in range(many):
         for worth in worths_of(program.words):
-            found.append((("holds", *root, str(place), worth), []))
+            found.append((("holds", *root, str(place), worth), ()))
     return found
 
 
@@ -173,16 +173,11 @@ def in_order(premises):
     return tuple(sorted(set(premises)))
 
 
-def ordered(found):
-    """Clauses in the form of the document, ascending, each once."""
-    return tuple(sorted({(fact, in_order(premises)) for fact, premises in found}))
-
-
 def work_out_unit(unit):
     found = [(("keeps", unit.name, cell, word), []) for cell, word in unit.cells]
     for function in unit.functions:
         found += of_function(unit, function)
-    return ordered(found)
+    return tuple(sorted({(fact, in_order(premises)) for fact, premises in found}))
 
 
 def work_out_program(program):
@@ -191,7 +186,8 @@ def work_out_program(program):
         found += unit_clauses(unit)
     for root in program.roots:
         found += of_root(program, root)
-    return ordered(found)
+    # No clause is one of two units, or of a unit and a root.
+    return tuple(sorted(found))
 
 
 def unit_clauses(unit):

@@ -18,7 +18,7 @@ class Net:
 
     def __init__(self, found):
         self.found = found
-        self.behind = watched(found)
+        self.watchers = watched(found)
         self.missing = [len(premises) for _, premises in found]
         self.ready = [at for at, many in enumerate(self.missing) if many == 0]
 
@@ -36,7 +36,7 @@ class Net:
             turn += 1
             ready = []
             for fact in fresh:
-                for at in self.behind.get(fact, ()):
+                for at in self.watchers.get(fact, ()):
                     missing[at] -= 1
                     if missing[at] == 0:
                         ready.append(at)

@@ -33,7 +33,7 @@ class Diagrams:
             self.highs.append(high)
         return self.nodes[key]
 
-    def asking(self, level):
+    def needing(self, level):
         """The function that is yes just with this input."""
         return self.node(level, NEVER, ALWAYS)
 
@@ -81,7 +81,7 @@ class Diagrams:
             node = self.highs[node] if self.levels[node] in present else self.lows[node]
         return node
 
-    def asked(self, node, last):
+    def levels_asked(self, node, last):
         """The levels up to the level last for whose inputs a function asks, as keys."""
         found = {}
         seen = {node: True}

@@ -28,8 +28,7 @@ def do_let(going, frame, row):
             going.fault("BAD")
             return
         value = reckoned(value, words[3], other)
-    going.take(words[1], value)
-    frame.line += 1
+    going.take(words[1], value, frame.line + 1)
 
 
 def do_call(going, frame, row):
@@ -38,18 +37,17 @@ def do_call(going, frame, row):
 
 
 def do_get(going, frame, row):
-    going.take(row.words[1], going.cells[(frame.home, row.words[2])])
-    frame.line += 1
+    going.take(row.words[1], going.cells[(frame.home, row.words[2])], frame.line + 1)
 
 
 def do_keep(going, frame, row):
     going.keep_in(row.words[1], frame.stands_for(row.words[2]))
-    frame.line += 1
+    going.go_to(frame.line + 1)
 
 
 def do_show(going, frame, row):
     going.shown.append(frame.stands_for(row.words[1]))
-    frame.line += 1
+    going.go_to(frame.line + 1)
 
 
 def do_give(going, frame, row):
@@ -81,9 +79,9 @@ def do_if(going, frame, row):
     if held is None:
         return
     if held:
-        frame.line += 1
+        going.go_to(frame.line + 1)
     else:
-        frame.line = row.middle + 1 if row.middle else row.last
+        going.go_to(row.middle + 1 if row.middle else row.last)
 
 
 def do_while(going, frame, row):
@@ -91,12 +89,12 @@ def do_while(going, frame, row):
         return
     held = tested(going, frame, row.words)
     if held is not None:
-        frame.line = row.line + 1 if held else row.last + 1
+        going.go_to(row.line + 1 if held else row.last + 1)
 
 
-def do_part(_going, frame, _row):
+def do_part(going, frame, _row):
     """What try and do do."""
-    frame.line += 1
+    going.go_to(frame.line + 1)
 
 
 DOING = {
@@ -117,7 +115,7 @@ DOING = {
 
 def do_next(going):
     """Do the statement under way, and come to the next one."""
-    frame = going.frames[-1]
+    frame = going.frame
     row = frame.current()
     action = DOING[row.words[0]]
     action(going, frame, row)

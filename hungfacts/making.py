@@ -172,23 +172,41 @@ STATEMENTS = {
 }
 
 
-def work_out_made(program, name, budget):
+class Draft:
+    """What a made unit is made of: its text, the origins and questions of a Made, and how names were called.
+
+    renamed: for the line of each call whose function was put in, the names that stand in the place of
+    those of this function.
+    """
+
+    def __init__(self, writer):
+        self.text = "\n".join([text for text, _ in writer.rows])
+        self.origins = tuple([origin for _, origin in writer.rows])
+        self.asked = tuple(list(writer.asking.log.items()))
+        self.renamed = writer.renamed
+
+
+def work_out_draft(program, name, budget):
     unit = program.unit(name)
     asking = Asking(answers_of(program, budget))
     writer = Writer(asking)
     writer.write(["unit", unit.name], ((unit.name, 1),))
-    for at, (name, word) in enumerate(unit.cells):
-        if asking.is_so(("read", unit.name, name)):
-            writer.write(["cell", name, word], ((unit.name, 2 + at),))
+    for at, (cell, word) in enumerate(unit.cells):
+        if asking.is_so(("read", unit.name, cell)):
+            writer.write(["cell", cell, word], ((unit.name, 2 + at),))
     for function in unit.functions:
         Maker(writer, unit, function).go_through()
-    text = "\n".join([text for text, _ in writer.rows])
-    return Made(text, tuple([origin for _, origin in writer.rows]), tuple(list(asking.log.items())))
+    return Draft(writer)
+
+
+def draft_of(program, name, budget):
+    """The Draft of the unit of this name."""
+    return recalled(program, work_out_draft, name, budget)
 
 
 def made(program, name, *, budget=0):
     """The Made of the unit of this name."""
     unit = program.unit(name)
     check_budget(budget)
-    found = recalled(program, work_out_made, unit.name, budget)
-    return Made(found.text, found.origins, found.asked)
+    draft = draft_of(program, unit.name, budget)
+    return Made(draft.text, draft.origins, draft.asked)

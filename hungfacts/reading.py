@@ -21,37 +21,50 @@ def read_unit(words, text):
     return ahead
 
 
+def read_made(words, text):
+    """What the text of a made unit tells, as an Ahead.
+
+    It may have no function, and it may call open functions of its own by UNIT.NAME.
+    """
+    ahead = Ahead(words)
+    for at, text_line in enumerate(text.split("\n")):
+        take(ahead, at + 1, tuple(text_line.split(" ")))
+    return ahead
+
+
 def take_line(ahead, line, words):
-    """Take the next line, and tell whether it may stand there."""
-    if line == 1:
-        return take_first(ahead, words)
-    if ahead.function is None:
-        return take_outside(ahead, line, words)
-    if not stands_within(ahead, words):
+    """Take the next line if it may stand there, and tell whether it may."""
+    if not stands(ahead, line, words):
         return False
-    if words[0] == "end" and not ahead.blocks:
+    take(ahead, line, words)
+    return True
+
+
+def stands(ahead, line, words):
+    """Whether the next line may stand there."""
+    if line == 1:
+        return first_stands(words)
+    if ahead.function is None:
+        return cell_stands(ahead, words) or function_stands(ahead, words)
+    return stands_within(ahead, words)
+
+
+def take(ahead, line, words):
+    """Take the next line, which may stand there."""
+    if line == 1:
+        ahead.name = words[1]
+    elif words[0] == "cell":
+        ahead.take_cell(words[1], words[2])
+    elif words[0] in ("open", "local"):
+        ahead.take_function(line, words)
+    elif words[0] == "end" and not ahead.blocks:
         ahead.take_end(line)
     else:
         ahead.take_row(line, words)
-    return True
 
 
-def take_first(ahead, words):
-    if len(words) != 2 or words[0] != "unit" or not is_name(words[1]):
-        return False
-    ahead.name = words[1]
-    return True
-
-
-def take_outside(ahead, line, words):
-    """Take a line that stands in no function, and tell whether it may."""
-    if cell_stands(ahead, words):
-        ahead.take_cell(words[1], words[2])
-        return True
-    if function_stands(ahead, words):
-        ahead.take_function(line, words)
-        return True
-    return False
+def first_stands(words):
+    return len(words) == 2 and words[0] == "unit" and is_name(words[1])
 
 
 def cell_stands(ahead, words):

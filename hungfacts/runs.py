@@ -3,7 +3,8 @@
 from hungfacts.doing import do_next
 from hungfacts.errors import BadCount, BadValues, NoRoot
 from hungfacts.forms import FIXED, is_integer
-from hungfacts.going import Going
+from hungfacts.going import Going, where
+from hungfacts.memory import recalled
 
 MOST_GOES = 2000
 
@@ -28,20 +29,37 @@ def is_count(value):
     return is_integer(value) and 1 <= value <= MOST_GOES
 
 
-def begun(program, root, values, most):
-    """A run ahead of its first statement; raises what run raises."""
+def check_run(program, root, values, most):
+    """Raise what run raises."""
     check_root(program, root, values)
     if not is_count(most):
         raise BadCount(most)
-    going = Going(program.units, most)
+
+
+def work_out_functions(program):
+    return {(unit.name, each.name): each for unit in program.units for each in unit.functions}
+
+
+def work_out_cells(program):
+    return {(unit.name, cell): word for unit in program.units for cell, word in unit.cells}
+
+
+def cells_of(program):
+    """The first value of each (unit, cell) of a program."""
+    return recalled(program, work_out_cells)
+
+
+def begun(program, root, values, most):
+    """A run ahead of its first statement; raises what run raises."""
+    check_run(program, root, values, most)
+    going = Going(recalled(program, work_out_functions), cells_of(program), most)
     going.enter(root, values)
     going.come()
     return going
 
 
-def ended(program, root, values, most):
-    """A run behind its last statement; raises what run raises."""
-    going = begun(program, root, values, most)
+def ended(going):
+    """A run behind its last statement."""
     while going.outcome is None:
         do_next(going)
     return going
@@ -49,17 +67,20 @@ def ended(program, root, values, most):
 
 def run(program, root, values, most):
     """What comes of a run: ("gave", value, shown), ("raised", word, places, shown) or ("tired",)."""
-    return ended(program, root, values, most).outcome
+    return ended(begun(program, root, values, most)).outcome
 
 
 def steps(program, root, values, most):
     """Yield (places, names) for each statement to which the run comes."""
     going = begun(program, root, values, most)
     while going.outcome is None:
-        yield (going.where(), going.names_here())
+        yield (where(going.frame), going.names_here())
         do_next(going)
 
 
 def met(program, root, values, most):
     """The ascending tuple of the facts that the run meets."""
-    return tuple(sorted(ended(program, root, values, most).seen))
+    going = begun(program, root, values, most)
+    first = [("keeps", home, cell, word) for (home, cell), word in cells_of(program).items()]
+    ended(going)
+    return tuple(sorted(set(first + list(going.seen))))

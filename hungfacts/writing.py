@@ -22,15 +22,15 @@ class Asking:
 class View:
     """A function whose statements are gone through.
 
-    behind: what stands in origins behind the line of the statement. renamed: the names that stand in
+    tail: what stands in origins behind the line of the statement. renamed: the names that stand in
     the place of its own ones, where it is put in; None where it is made itself.
     """
 
-    def __init__(self, home, name, params, behind, renamed):
+    def __init__(self, home, name, params, tail, renamed):
         self.home = home
         self.name = name
         self.params = params
-        self.behind = behind
+        self.tail = tail
         self.renamed = renamed
 
     def about(self, kind, name):
@@ -39,19 +39,21 @@ class View:
         return (kind, self.home, self.name, spot)
 
     def origin(self, line):
-        return ((self.home, line),) + self.behind
+        return ((self.home, line),) + self.tail
 
 
 class Writer:
     """Writes a made unit; rows are (text, origin) of its lines.
 
-    used: the words that no fresh name may be, as keys.
+    used: the words that no fresh name may be, as keys. renamed: for the line of each call whose function
+    was put in, the names that stand in the place of those of this function.
     """
 
     def __init__(self, asking):
         self.asking = asking
         self.rows = []
         self.used = {}
+        self.renamed = {}
 
     def begin(self):
         """Begin with a function, none of whose words is used yet."""

@@ -315,6 +315,66 @@ def statements(files):
     return faults
 
 
+def classes(files):
+    """Names that are a method and an attribute in one class, defaults that are no plain values, rows of __exit__ and __eq__."""
+    faults = []
+    for name, node, around in nodes(files):
+        if isinstance(node, ast.ClassDef):
+            methods = [each.name for each in node.body if isinstance(each, ast.FunctionDef)]
+            stored = {each.attr for each in ast.walk(node) if isinstance(each, ast.Attribute) and isinstance(each.ctx, ast.Store)
+                      and isinstance(each.value, ast.Name) and each.value.id == "self"}
+            faults += [("L18", name, node.lineno) for _ in stored & set(methods)]
+            faults += [("L18", name, node.lineno) for each in set(methods) if methods.count(each) > 1]
+        if isinstance(node, ast.FunctionDef):
+            defaults = node.args.defaults + [each for each in node.args.kw_defaults if each is not None]
+            if any(not isinstance(part, (ast.Constant, ast.Tuple, ast.UnaryOp, ast.USub, ast.Load))
+                   for each in defaults for part in ast.walk(each)):
+                faults.append(("L4", name, node.lineno))
+            rows = node.body[1:] if ast.get_docstring(node) else node.body
+            if node.name == "__exit__" and not all(exit_row_right(row, node.args) for row in rows):
+                faults.append(("L6", name, node.lineno))
+            if node.name in ("__eq__", "__len__", "__repr__", "__str__") and any(
+                    isinstance(each, (ast.Assign, ast.AugAssign, ast.Delete)) for each in ast.walk(node)):
+                faults.append(("L28", name, node.lineno))
+        if isinstance(node, ast.With) and not all(isinstance(each.context_expr, (ast.Call, ast.Name, ast.Attribute))
+                                                  for each in node.items):
+            faults.append(("L6", name, node.lineno))
+    return faults
+
+
+def is_path(node):
+    """Whether a node is a name, or an attribute of an attribute .. of a name."""
+    while isinstance(node, ast.Attribute):
+        node = node.value
+    return isinstance(node, ast.Name)
+
+
+def exit_row_right(row, args):
+    """Whether a row may stand in __exit__, as far as such rows are needed here."""
+    barred = {each.arg for each in args.args[2:]}
+    if any(isinstance(each, ast.Name) and each.id in barred for each in ast.walk(row)):
+        return False
+    if isinstance(row, ast.Return):
+        return row.value is None or isinstance(row.value, ast.Constant) and row.value.value in (None, False)
+    if isinstance(row, ast.Assign):
+        return all(isinstance(each, ast.Attribute) and is_path(each) for each in row.targets) and (
+            is_path(row.value) or isinstance(row.value, ast.Constant))
+    if isinstance(row, ast.If):
+        return exit_test_right(row.test, args.args[1].arg) and all(exit_row_right(each, args) for each in row.body + row.orelse)
+    return isinstance(row, ast.Pass)
+
+
+def exit_test_right(test, kind):
+    if isinstance(test, ast.BoolOp):
+        return all(exit_test_right(each, kind) for each in test.values)
+    if isinstance(test, ast.UnaryOp):
+        return isinstance(test.op, ast.Not) and exit_test_right(test.operand, kind)
+    if isinstance(test, ast.Compare):
+        none = isinstance(test.comparators[0], ast.Constant) and test.comparators[0].value is None
+        return len(test.ops) == 1 and isinstance(test.ops[0], (ast.Is, ast.IsNot)) and none and is_path(test.left)
+    return is_path(test) and not (isinstance(test, ast.Name) and test.id == kind)
+
+
 def own_methods(files):
     return {node.name for _, node, around in nodes(files)
             if isinstance(node, ast.FunctionDef) and isinstance(around[-1], ast.ClassDef)}
@@ -428,7 +488,7 @@ def generators(files):
 
 
 def faults_of(files, package):
-    looks = (sizes, file_names, module_level, names, words, strings, statements, calls, iterations, generators)
+    looks = (sizes, file_names, module_level, names, words, strings, statements, classes, calls, iterations, generators)
     found = [fault for look in looks for fault in look(files)]
     return found + imports(files, package)
 

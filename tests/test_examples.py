@@ -116,6 +116,51 @@ SECTION_12 = ('''\
 [['let x0 q', 'show x0', 'let x x0', 'show x'], ((('u', 3),), (('v', 3), ('u', 3)), (('v', 4), ('u', 3)))]
 ''',)
 
+SECTION_13 = ('''\
+>>> from hungfacts.programs import Program
+>>> from hungfacts.stepping import Stepper
+>>> from hungfacts.units import Unit
+>>> a, g = "unit a\\nopen main\\ncall x b.g\\nshow x\\nend", "open g\\nlet n 2\\nshow n\\ngive n\\nend"
+>>> first, later, other = ["unit b\\n" + text for text in (g, "cell c ON\\n" + g, g.replace("2", "3"))]
+>>> programs = [Program((Unit(("ON",), a), Unit(("ON",), text)), (("a", "main"),)) for text in (first, later, other)]
+>>> stepper = Stepper(programs[0], ("a", "main"), ())
+>>> [stepper.step(), stepper.step(), stepper.told("n")]
+[(('b', 3), ('a', 3)), (('b', 4), ('a', 3)), ('is', 2)]
+>>> stepper.move(programs[1])
+>>> [stepper.places, stepper.done, stepper.against(programs[2])]
+[(('b', 5), ('a', 3)), 2, (('lines', 'b', 5),)]
+''',)
+
+SECTION_14 = ('''\
+>>> from hungfacts.programs import Program
+>>> from hungfacts.units import Unit
+>>> m = "unit m\\nopen main\\ncall x k.k ON\\ncall y b.g\\nend"
+>>> b, c = "unit b\\nopen g\\ncall x c.h\\nend", "unit c\\nopen h\\ncall x k.k NONE\\ncall y b.g\\nend"
+>>> k = "unit k\\nopen k p\\nif p is NONE\\nraise BAD\\nend\\ngive ON\\nend"
+>>> program = Program(tuple([Unit(("ON",), text) for text in (m, b, c, k)]), (("m", "main"),))
+>>> from hungfacts.house import House
+>>> house = House(program)
+>>> change = house.edit(("unit m\\nopen main\\ncall x k.k ON\\nend",))
+>>> [[name for name, reason in change.anew], house.made("b").text, house.times("k"), house.edits]
+[['b', 'c', 'k', 'm'], 'unit b', 2, 1]
+>>> [house.undo().came == change.fell, house.times("k"), house.program == program]
+[True, 1, True]
+''',)
+
+SECTION_15 = ('''\
+>>> from hungfacts.programs import Program
+>>> from hungfacts.units import Unit
+>>> m = "unit m\\nopen main\\ncall x k.k ON\\ncall y b.g\\nend"
+>>> b, c = "unit b\\nopen g\\ncall x c.h\\nend", "unit c\\nopen h\\ncall x k.k NONE\\ncall y b.g\\nend"
+>>> k = "unit k\\nopen k p\\nif p is NONE\\nraise BAD\\nend\\ngive ON\\nend"
+>>> program = Program(tuple([Unit(("ON",), text) for text in (m, b, c, k)]), (("m", "main"),))
+>>> from hungfacts.changes import Change
+>>> later = Program((Unit(("ON",), "unit m\\nopen main\\ncall x k.k ON\\nend"),) + program.units[:3], program.roots)
+>>> change = Change(program, later)
+>>> dict(change.anew)["k"]
+('answer', ('ways', 'k', 3), 'both', 'no')
+''',)
+
 
 def steps(text):
     """The rows behind >>> of an example, each with the row that tells its result, or None."""
@@ -159,6 +204,9 @@ class TestExamples(unittest.TestCase):
         self.look_at_section(SECTION_10, [4])
         self.look_at_section(SECTION_11, [7])
         self.look_at_section(SECTION_12, [8, 7])
+        self.look_at_section(SECTION_13, [10])
+        self.look_at_section(SECTION_14, [11])
+        self.look_at_section(SECTION_15, [10])
 
     def test_readme(self):
         readme = Path(__file__).resolve().parent.parent / "README.md"

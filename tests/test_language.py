@@ -21,8 +21,20 @@ INTERFACE = {
     "parting.py": {"alike": ("one", "other"), "parting": ("one", "other"), "shows_parting": ("one", "other", "value")},
     "questions.py": {"answer": ("program", "question", "*", "budget")},
     "making.py": {"made": ("program", "name", "*", "budget")},
+    "maderuns.py": {"run_made": ("program", "root", "values", "most", "*", "budget")},
+    "stepping.py": {"Stepper": ("program", "root", "values", "*", "budget")},
+    "changes.py": {"Change": ("elder", "newer", "*", "budget")},
+    "house.py": {"House": ("program", "*", "budget")},
 }
-METHODS = {"programs.py": {"Program": {"unit": ("self", "name")}}}
+METHODS = {
+    "programs.py": {"Program": {"unit": ("self", "name")}},
+    "stepping.py": {"Stepper": {"step": ("self",), "back": ("self",), "until": ("self", "unit", "line"), "told": ("self", "name"),
+                                "state": ("self",), "against": ("self", "program"), "move": ("self", "program")}},
+    "house.py": {"House": {"made": ("self", "name"), "facts": ("self",), "run": ("self", "root", "values", "most"),
+                           "times": ("self", "name"), "edit": ("self", "texts", "*", "drops", "roots"), "undo": ("self",),
+                           "redo": ("self",), "trial": ("self",), "tried": ("self", "look", "*", "keep"),
+                           "start": ("self", "root", "values"), "stepper": ("self", "number"), "behind": ("self",), "copy": ("self",)}},
+}
 
 HEAD = '"""Some file."""\n'
 WRONG = [
@@ -55,6 +67,14 @@ WRONG = [
     ("L25", "class A:\n    def one(self):\n        return self.two(self.one)\n\n    def two(self, a):\n        return a\n"),
     ("L7", "def f(*a):\n    return f(1, *a, len(a))\n"),
     ("L3", "def f(a):\n    return T[a](1)\n\n\nT = {1: f}\n"),
+    ("L18", "class A:\n    def __init__(self):\n        self.one = 1\n\n    def one(self):\n        return 1\n"),
+    ("L18", "class A:\n    def one(self):\n        return 1\n\n    def one(self):\n        return 2\n"),
+    ("L4", "def f(a=[]):\n    return a\n"), ("L4", "def f(*, a=len):\n    return a\n"),
+    ("L28", "class A:\n    def __eq__(self, other):\n        self.one = 1\n        return True\n"),
+    *[("L6", f"class A:\n    def __exit__(self, kind, value, trace):\n        {row}\n")
+      for row in ("self.one()", "return True", "self.one = value", "self.one = len(self.two)", "one = self.two", "if kind:\n            pass",
+                  "if self.one > self.two:\n            pass", "for one in self.two:\n            pass", "raise kind")],
+    ("L6", "def f(a):\n    with a[0]:\n        return 1\n"),
 ]
 
 
