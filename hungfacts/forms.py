@@ -17,10 +17,14 @@ def is_name(text):
 
 
 def is_numeral(text):
-    digits = text[1:] if text.startswith("-") else text
-    if not 1 <= len(digits) <= 9 or not consists_of(digits, DIGITS):
-        return False
-    return digits[0] != "0" or text == "0"
+    if text.startswith("-"):
+        return text != "-0" and is_number(text[1:], 9)
+    return is_number(text, 9)
+
+
+def is_number(text, most):
+    """Whether a string is a number of so many digits at most, without leading zeros."""
+    return 1 <= len(text) <= most and consists_of(text, DIGITS) and (text[0] != "0" or text == "0")
 
 
 def is_capital(text):

@@ -61,6 +61,11 @@ def work_out_clause_keys(program):
     return {clause: True for clause in clauses(program)}
 
 
+def clause_keys(program):
+    """The clauses of a program, as keys."""
+    return recalled(program, work_out_clause_keys)
+
+
 def is_clause(value, found):
     """Whether any value is one of these clauses, which are the keys of a dict."""
     if not isinstance(value, tuple) or len(value) != 2 or not isinstance(value[1], tuple):
@@ -72,7 +77,7 @@ def shows_way(program, fact, value):
     """Whether any value is a way to any value as fact."""
     if not isinstance(value, tuple) or not value:
         return False
-    found = recalled(program, work_out_clause_keys)
+    found = clause_keys(program)
     ahead = {}
     for clause in value:
         if not is_clause(clause, found) or not all([premise in ahead for premise in clause[1]]):

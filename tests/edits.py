@@ -59,3 +59,21 @@ def edited(program, luck, many=2):
             return Program(units, tuple(sorted(set(roots))))
         except HungError:
             continue
+
+
+def nudged(program, luck):
+    """Another program with one operand of one line otherwise."""
+    while True:
+        unit = luck.choice(program.units)
+        rows = [row.split(" ") for row in unit.lines]
+        row = luck.choice(rows)
+        at = luck.randrange(len(row))
+        if row[0] in ("unit", "open", "local") or at == 0:
+            continue
+        row[at] = luck.choice(program.words + ("NONE", "BAD", "1", "0"))
+        text = "\n".join([" ".join(row) for row in rows])
+        try:
+            if text != unit.text:
+                return Program(tuple([each for each in program.units if each != unit]) + (Unit(unit.words, text),), program.roots)
+        except HungError:
+            continue

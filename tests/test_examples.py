@@ -155,10 +155,38 @@ SECTION_15 = ('''\
 >>> k = "unit k\\nopen k p\\nif p is NONE\\nraise BAD\\nend\\ngive ON\\nend"
 >>> program = Program(tuple([Unit(("ON",), text) for text in (m, b, c, k)]), (("m", "main"),))
 >>> from hungfacts.changes import Change
+>>> from hungfacts.whys import why
 >>> later = Program((Unit(("ON",), "unit m\\nopen main\\ncall x k.k ON\\nend"),) + program.units[:3], program.roots)
 >>> change = Change(program, later)
 >>> dict(change.anew)["k"]
 ('answer', ('ways', 'k', 3), 'both', 'no')
+>>> why(change, "k")
+('facts', (('called', 'b', 'g'), ('at', 'b', 3), ('called', 'c', 'h'), ('at', 'c', 3), ('holds', 'k', 'k', '0', 'NONE'), ('yes', 'k', 3)))
+''',)
+
+SECTION_16 = ('''\
+>>> from hungfacts.facttexts import read_fact, show_summary
+>>> from hungfacts.units import Unit
+>>> text = show_summary(Unit(("ON",), "unit b\\nopen g\\ncall x c.h\\nend"))
+>>> [read_fact("at m 3"), text.split("\\n")[:2]]
+[('at', 'm', 3), ['back b g <- back c h, called b g', 'called c h <- called b g']]
+''',)
+
+SECTION_17 = ('''\
+>>> from hungfacts.programs import Program
+>>> from hungfacts.units import Unit
+>>> m = "unit m\\nopen main\\ncall x k.k ON\\ncall y b.g\\nend"
+>>> b, c = "unit b\\nopen g\\ncall x c.h\\nend", "unit c\\nopen h\\ncall x k.k NONE\\ncall y b.g\\nend"
+>>> k = "unit k\\nopen k p\\nif p is NONE\\nraise BAD\\nend\\ngive ON\\nend"
+>>> program = Program(tuple([Unit(("ON",), text) for text in (m, b, c, k)]), (("m", "main"),))
+>>> from hungfacts.desk import Desk
+>>> from hungfacts.house import House
+>>> from hungfacts.stored import stored
+>>> desk = Desk(stored(House(program)))
+>>> [desk.say("run m main"), desk.say("is called b g"), desk.say("put unit m / open main / call x k.k ON / end")]
+['raised BAD k:4 c:3 b:3 m:4', 'yes 11', 'b c k m']
+>>> [desk.say("why k"), desk.say("made c"), desk.say("undo")]
+['called b g; at b 3; called c h; at c 3; holds k k 0 NONE; yes k 3', 'unit c', 'b c k m']
 ''',)
 
 
@@ -206,7 +234,17 @@ class TestExamples(unittest.TestCase):
         self.look_at_section(SECTION_12, [8, 7])
         self.look_at_section(SECTION_13, [10])
         self.look_at_section(SECTION_14, [11])
-        self.look_at_section(SECTION_15, [10])
+        self.look_at_section(SECTION_15, [12])
+        self.look_at_section(SECTION_16, [4])
+        self.look_at_section(SECTION_17, [12])
+
+    def test_all_are_here(self):
+        """Where the document itself is at hand: each of its examples stands here, as it stands there."""
+        document = Path(__file__).resolve().parent.parent.parent / "shared" / "DOC.md"
+        if document.exists():
+            here = [text for name, texts in sorted(globals().items()) if name.startswith("SECTION_") for text in texts]
+            there = [part.split("```")[0] for part in document.read_text(encoding="utf-8").split("```\n>>>")[1:]]
+            self.assertEqual(sorted(here), sorted([">>>" + text for text in there]))
 
     def test_readme(self):
         readme = Path(__file__).resolve().parent.parent / "README.md"

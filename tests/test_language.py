@@ -25,6 +25,10 @@ INTERFACE = {
     "stepping.py": {"Stepper": ("program", "root", "values", "*", "budget")},
     "changes.py": {"Change": ("elder", "newer", "*", "budget")},
     "house.py": {"House": ("program", "*", "budget")},
+    "whys.py": {"why": ("change", "name"), "shows_why": ("change", "name", "value")},
+    "facttexts.py": {"show_fact": ("fact",), "read_fact": ("text",), "show_summary": ("unit",), "read_summary": ("text",)},
+    "stored.py": {"stored": ("house",), "read_house": ("text",)},
+    "desk.py": {"Desk": ("text",)},
 }
 METHODS = {
     "programs.py": {"Program": {"unit": ("self", "name")}},
@@ -34,6 +38,7 @@ METHODS = {
                            "times": ("self", "name"), "edit": ("self", "texts", "*", "drops", "roots"), "undo": ("self",),
                            "redo": ("self",), "trial": ("self",), "tried": ("self", "look", "*", "keep"),
                            "start": ("self", "root", "values"), "stepper": ("self", "number"), "behind": ("self",), "copy": ("self",)}},
+    "desk.py": {"Desk": {"say": ("self", "line")}},
 }
 
 HEAD = '"""Some file."""\n'
