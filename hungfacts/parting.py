@@ -97,10 +97,11 @@ def parting(one, other):
     return texts_around(one, all_asks(one, other), held), output, which
 
 
-def program_around(unit, texts):
-    """The program of a unit and the texts around it, None if they are no program."""
+def programs_around(one, other, texts):
+    """The programs of each of two units and the texts around it, None if they are no programs."""
     try:
-        return Program((unit,) + tuple([Unit(unit.words, text) for text in texts]), ROOTS)
+        units = tuple([Unit(one.words, text) for text in texts])
+        return (Program((one,) + units, ROOTS), Program((other,) + units, ROOTS))
     except (BadUnit, BadUnits, BadRoots, NoFunction):
         return None
 
@@ -115,8 +116,8 @@ def shows_parting(one, other, value):
         return False
     if not is_integer(which) or which not in (0, 1) or not is_flat(fact) or fact not in outputs(one) + outputs(other):
         return False
-    programs = [program_around(unit, texts) for unit in (one, other)]
-    if any([program is None for program in programs]):
+    programs = programs_around(one, other, texts)
+    if programs is None:
         return False
     known = [fact in known_facts(program) for program in programs]
     return known[which] and not known[1 - which]
