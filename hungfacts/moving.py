@@ -110,7 +110,8 @@ def moved_cells(moment, works):
     """The values of the cells of these made units; those that the elder program does not have begin anew."""
     cells = {each: works.cells[each] for each in works.cells}
     for home, cell, told in told_cells(moment.works, moment.cells):
-        if (home, cell) in cells and told != GONE:
+        # What is gone is not read by the newer program: that would stand against the move.
+        if (home, cell) in cells:
             cells[(home, cell)] = told[1]
     return cells
 

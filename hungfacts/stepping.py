@@ -70,7 +70,7 @@ class Stepper:
         """What the made program has of a name in scope at the first place."""
         self._check_under_way()
         sight = sights_of(self.moment.works, self.moment.frame)[0]
-        if not isinstance(name, str) or name not in sight.row.scope:
+        if name not in sight.row.scope:
             raise NoName(name)
         return sight.told(name)
 

@@ -69,7 +69,7 @@ class Reader:
             words = self.head()
             self.take(len(words) == 3 and is_name(words[1]) and is_name(words[2]))
             self.roots.append((words[1], words[2]))
-        self.read_unit()
+        # Here is a row that is no root, so there is one unit at least.
         while self.line < len(self.rows):
             self.read_unit()
 

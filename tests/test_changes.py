@@ -129,9 +129,16 @@ class TestErrors(unittest.TestCase):
             if value in (0, 1, 99) and not isinstance(value, bool):
                 Change(one, one, budget=value)
                 continue
-            with self.assertRaises(BadBudget) as caught:
-                Change(one, one, budget=value)
-            self.assertIs(caught.exception.value, value)
+            for other in (one, some("unit a / open f / show 1 / end"), some("unit b / open f / end", roots=(("b", "f"),))):
+                with self.assertRaises(BadBudget) as caught:
+                    Change(one, other, budget=value)
+                self.assertIs(caught.exception.value, value)
+
+    def test_budget_is_0(self):
+        a, b = "unit a / open f p / call x b.g p / show x / end", "unit b / open g q / show q / give q / end"
+        one, other = some(a, b), some(a, b.replace("show q", "show 1 / show q"))
+        self.assertEqual(Change(one, other).anew, Change(one, other, budget=0).anew)
+        self.assertNotEqual(Change(one, other).anew, Change(one, other, budget=1).anew)
 
     def test_names_of_arguments(self):
         one, other = program(FOUR, MAIN), program(LESS, MAIN)
@@ -143,6 +150,13 @@ class TestErrors(unittest.TestCase):
         self.assertTrue(Change(one, other) == Change(program(FOUR, MAIN), other))
         self.assertFalse(Change(one, other) == Change(other, one))
         self.assertFalse(Change(one, other) == Change(one, one))
+        text, more = "unit a / open f / end", " / open g / end"
+        three = [some(text + more.replace("end", f"show {k} / end")) for k in range(3)]
+        self.assertEqual(len({Change(elder, newer).anew for elder in three for newer in three if elder != newer}), 1)
+        for given in ((0, 1), (0, 2), (1, 2)):
+            for others in ((0, 1), (0, 2), (1, 2)):
+                changes = [Change(three[one], three[other]) for one, other in (given, others)]
+                self.assertEqual(changes[0] == changes[1], given == others)
         for value in KINDS:
             self.assertFalse(Change(one, other) == value)
 

@@ -238,14 +238,6 @@ class TestExamples(unittest.TestCase):
         self.look_at_section(SECTION_16, [4])
         self.look_at_section(SECTION_17, [12])
 
-    def test_all_are_here(self):
-        """Where the document itself is at hand: each of its examples stands here, as it stands there."""
-        document = Path(__file__).resolve().parent.parent.parent / "shared" / "DOC.md"
-        if document.exists():
-            here = [text for name, texts in sorted(globals().items()) if name.startswith("SECTION_") for text in texts]
-            there = [part.split("```")[0] for part in document.read_text(encoding="utf-8").split("```\n>>>")[1:]]
-            self.assertEqual(sorted(here), sorted([">>>" + text for text in there]))
-
     def test_readme(self):
         readme = Path(__file__).resolve().parent.parent / "README.md"
         self.assertEqual(doctest.testfile(str(readme), module_relative=False).failed, 0)

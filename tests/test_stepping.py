@@ -306,6 +306,7 @@ class TestUntil(StepTest):
             self.assertRaises(Endless, stepper.until, "a", 7)
             self.assertEqual(properties(stepper), told)
             stepper.step()
+        self.assertEqual([stepper.shown, stepper.places], [(4, 1, 1), places("a:4")])
         for _ in range(5):
             stepper.back()
         self.assertRaises(Ended, stepper.back)
@@ -349,6 +350,9 @@ class TestErrors(StepTest):
         self.look(NoRoot, ("a", "g"), ("a", "g"), ())
         self.look(BadBudget, 100, ROOT, (1,), budget=100)
         self.look(BadBudget, -1, ROOT, (1,), budget=-1)
+
+    def test_budget_is_0(self):
+        self.assertEqual(Stepper(program((CALLER, SMALL), ROOTS, WORDS), ROOT, (1,)).places, places("a:3"))
 
     def test_names_of_arguments(self):
         stepper = Stepper(program=self.SOME, root=ROOT, values=("BAD",), budget=99)

@@ -212,7 +212,10 @@ class TestSummary(unittest.TestCase):
                  "unit u / open f / call x v.g / if x is ON / raise x / end / give x / end",
                  "unit u / open f / try / call x v.g / catch e / if e is BAD / give 1 / end / raise e / end / end",
                  "unit u / open f p / if p is ON / if p is NONE / give 1 / end / give p / end / end",
-                 "unit u / open f p q / if p is ON / give q / end / if q is BAD / raise p / end / show p / end"]
+                 "unit u / open f p q / if p is ON / give q / end / if q is BAD / raise p / end / show p / end",
+                 "unit u / open f p / if p is ON / if p is NONE / raise ON / end / end / if p is BAD / if p < 1 / raise ON / end / end / end",
+                 "unit u / open f p / if p is BAD / if p is ON / raise ON / end / if p is NONE / raise ON / end / call x v.g / end"
+                 " / if p < 0 / if p is ON / raise ON / end / if p is NONE / raise ON / end / call y v.g / end / end"]
         for text in texts:
             some = unit(text)
             self.assertEqual(summary(some), plain_summary(some))

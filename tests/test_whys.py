@@ -4,6 +4,7 @@ import random
 import unittest
 
 from hungfacts.changes import Change
+from hungfacts.clauses import clauses
 from hungfacts.errors import NotAnew
 from hungfacts.whys import shows_why, why
 from tests.edits import edited, nudged
@@ -104,6 +105,7 @@ class TestGrounds(WhyTest):
         self.both_ways(some(a, b), some(a.replace("3", "OFF"), b), "b", "fails b 3", "holds b g 0 OFF")
         # That it holds num no more is no ground; of both words the least one is the turn.
         self.look(some(a, b), some(a.replace("3", "3 / call y b.g ON / call z b.g OFF"), b), "b", "fails b 3", "holds b g 0 OFF")
+        self.both_ways(some(a, b), some(a.replace("3", "BAD"), b), "b", "fails b 3", "holds b g 0 BAD")
         two = b.replace("q + 1", "q * q")
         self.both_ways(some(a, two), some(a.replace("3", "OFF"), two), "b", "fails b 3", "holds b g 0 OFF")
 
@@ -149,6 +151,17 @@ class TestLeast(WhyTest):
         change = self.look(some("unit a / open f p / show 1 / show 2 / end", *rest), some(a, *rest), "b", "called b g",
                            "called z h; at z 3; called b g")
         self.assertFalse(shows_why(change, "b", ("facts", chain("called k h; at k 3; called e h; at e 3; called b g"))))
+
+
+    def test_clauses_that_do_not_hold(self):
+        """That c gives ON would make x ON at a line that is never reached."""
+        a = "unit a / open f p / call x b.g / call y c.h / show y / end"
+        b = "unit b / open g / let z OFF / if z is ON / call x c.h / else / call x d.h / show x / end / end"
+        c, d = "unit c / open h / give OFF / end", "unit d / open h / give OFF / end"
+        on = [text.replace("OFF", "BAD") for text in (c, d)]
+        self.look(some(a, b, c, d), some(a, b, *on), "b", "only b g x", "gives d h BAD; holds b g x BAD")
+        change = Change(some(a, b, c, d), some(a, b, *on))
+        self.assertFalse(shows_why(change, "b", ("facts", chain("gives c h BAD; holds b g x BAD"))))
 
 
 class TestOthers(WhyTest):
@@ -271,9 +284,28 @@ class TestCompare(WhyTest):
                         chains = plain_chains(change, reason[1])
                         self.assertEqual(found, ("facts", chains[0]))
                         self.assertTrue(all(shows_why(change, name, ("facts", each)) for each in chains))
+                        self.look_at_others(change, name, chains, luck)
                         longest = max(longest, len(chains[0]))
         self.assertGreater(longest, 4)
         self.assertLessEqual({"called", "reached", "needed", "wanted", "only", "ways", "fails", "read", "put"}, set(seen))
+
+    def look_at_others(self, change, name, chains, luck):
+        """Chains of the same length that begin or end elsewhere, or have other facts of the change amid them."""
+        fresh = change.came if chains[0][-1] in change.came else change.fell
+        for _ in range(10):
+            some_chain = list(luck.choice(chains))
+            some_chain[luck.randrange(len(some_chain))] = luck.choice(fresh)
+            self.assertEqual(shows_why(change, name, ("facts", tuple(some_chain))), tuple(some_chain) in chains)
+        steps = {}
+        for program in (change.elder, change.newer):
+            for head, premises in clauses(program):
+                for premise in premises:
+                    steps.setdefault(premise, []).append(head)
+        for _ in range(30):
+            walk = [luck.choice(fresh)]
+            while len(walk) < len(chains[0]) and steps.get(walk[-1]):
+                walk.append(luck.choice(steps[walk[-1]]))
+            self.assertEqual(shows_why(change, name, ("facts", tuple(walk))), tuple(walk) in chains)
 
 
 if __name__ == "__main__":
