@@ -92,9 +92,7 @@ def say_made(desk, words):
 def say_origin(desk, words):
     origins = desk.house.made(words[0]).origins
     line = int(words[1])
-    if not 1 <= line <= len(origins):
-        raise BadLine("origin " + " ".join(words))
-    return places_told(origins[line - 1])
+    return places_told(origins[line - 1]) if 1 <= line <= len(origins) else None
 
 
 def say_why(desk, words):
@@ -225,4 +223,8 @@ class Desk:
             raise BadLine(line)
         words = line.split(" ")
         action = SAYING[words[0]]
-        return action(self, words[1:])
+        told = action(self, words[1:])
+        if told is None:
+            # The line of a made unit that it asks for is not there.
+            raise BadLine(line)
+        return told

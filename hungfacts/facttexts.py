@@ -74,10 +74,8 @@ def is_written(text, sign):
     return is_part(text, sign)
 
 
-def parts_read(text, forms):
-    """The tuple that is written so, its first part being one of these forms; None: there is none."""
-    words = text.split(" ")
-    form = forms.get(words[0])
+def parts_read(words, form):
+    """The tuple that these words write, if what stands behind the first one has this form; otherwise None."""
     if form is None or len(words) != len(form) + 1:
         return None
     if not all([is_written(word, sign) for word, sign in zip(words[1:], form)]):
@@ -87,7 +85,10 @@ def parts_read(text, forms):
 
 def read_fact(text):
     """The fact with this text."""
-    fact = parts_read(text, FACTS) if isinstance(text, str) else None
+    if not isinstance(text, str):
+        raise BadText(0)
+    words = text.split(" ")
+    fact = parts_read(words, FACTS.get(words[0]))
     if fact is None:
         raise BadText(0)
     return fact
@@ -102,11 +103,17 @@ def show_summary(unit):
     return "\n".join(rows)
 
 
+def condition_read(text):
+    """The condition with this text, or None."""
+    words = text.split(" ")
+    return parts_read(words, CONDITIONS.get(words[0]))
+
+
 def row_read(text):
     """The (output, case) that a line of a summary tells; None: it has not this form."""
     head, _, tail = text.partition(" <- ")
-    output = parts_read(head, CONDITIONS)
-    case = [parts_read(each, CONDITIONS) for each in tail.split(", ")]
+    output = condition_read(head)
+    case = [condition_read(each) for each in tail.split(", ")]
     if output is None or output[0] in NO_OUTPUTS or None in case or case != sorted(set(case)):
         return None
     return (output, tuple(case))

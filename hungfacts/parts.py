@@ -95,9 +95,10 @@ def rows_of_slot(spots):
     """The rows where each input of the slot may tell something."""
     rows = [((), avoided, least_ways((), avoided, spots), [((), without(avoided, one)) for one in avoided])
             for avoided in several(spots, 0)]
-    for one in spots:
-        rows.append(((one,), (), [(one,)], [((), without(spots, one))]))
-        rows.append(((one,), (one,), least_ways((one,), (one,), spots), [((one,), ()), ((), spots)]))
+    for spot in spots:
+        alone = (spot,)
+        rows.append((alone, (), [alone], [((), without(spots, spot))]))
+        rows.append((alone, alone, least_ways(alone, alone, spots), [(alone, ()), ((), spots)]))
     for kept in several(spots, 2):
         weaker = [((one,), (one,)) for one in kept] if len(kept) == 2 else [(without(kept, one), ()) for one in kept]
         rows.append((kept, (), [kept], weaker))

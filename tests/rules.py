@@ -184,6 +184,24 @@ def module_level(files):
     return faults
 
 
+def tables(files):
+    """Lists and dicts of module level that are not just read where they stand."""
+    kept = set()
+    for name, tree in trees(files).items():
+        kept |= {node.targets[0].id for node in tree.body if isinstance(node, ast.Assign) and isinstance(node.value, (ast.List, ast.Dict))
+                 and isinstance(node.targets[0], ast.Name)}
+    faults = []
+    for name, node, around in nodes(files):
+        if isinstance(node, ast.Name) and node.id in kept and isinstance(node.ctx, ast.Load):
+            above = around[-1]
+            read = isinstance(above, ast.Subscript) and above.value is node and isinstance(above.ctx, ast.Load)
+            read = read or isinstance(above, ast.Compare) or isinstance(above, (ast.For, ast.comprehension)) and above.iter is node
+            read = read or isinstance(above, ast.Attribute) and above.attr in ("get", "items", "keys", "values", "index", "count")
+            if not read and called(above) not in ("len", "list", "dict", "tuple", "sorted", "any", "all", "min", "max", "sum"):
+                faults.append(("L15", name, node.lineno))
+    return faults
+
+
 def bound_names(node):
     """(name, kind) of what a node binds."""
     if isinstance(node, (ast.FunctionDef, ast.ClassDef)):
@@ -488,7 +506,8 @@ def generators(files):
 
 
 def faults_of(files, package):
-    looks = (sizes, file_names, module_level, names, words, strings, statements, classes, calls, iterations, generators)
+    looks = (sizes, file_names, module_level, tables, names, words, strings, statements, classes, calls, iterations,
+             generators)
     found = [fault for look in looks for fault in look(files)]
     return found + imports(files, package)
 

@@ -189,7 +189,7 @@ class TestAnswers(DeskTest):
                     self.assertEqual(desk.say(f"origin {name} {at + 1}"), " ".join([f"{unit}:{line}" for unit, line in origin]))
                 for line in (0, len(found.origins) + 1, 9999):
                     said = f"origin {name} {line}"
-                    self.assertEqual(self.raises(BadLine, desk, said), said)
+                    self.assertIs(self.raises(BadLine, desk, said), said)
         self.assertEqual(desk.say("made a"), "unit a / open f p / let x0 p / show x0 / let x x0 / show x / end")
         self.assertEqual([desk.say("origin a 3"), desk.say("origin a 4")], ["a:3", "b:3 a:3"])
         for said in ("made c", "origin c 1", "origin c 0", "origin A: 9999", "times c", "why c", "alike c x", "alike c /"):
