@@ -62,7 +62,8 @@ class Trial:
 
     def __init__(self, house):
         self.house = house
-        self.kept = False
+        # None until it is kept, not False: at the end of a block an attribute may be asked by `is None` alone.
+        self.kept = None
         self.before = None
 
     def keep(self):
@@ -74,7 +75,7 @@ class Trial:
         return self
 
     def __exit__(self, kind, value, trace):
-        if kind is not None or not self.kept:
+        if kind is not None or self.kept is None:
             self.house.program = self.before.program
             self.house.edits = self.before.edits
             self.house.past = self.before.past

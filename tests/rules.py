@@ -336,6 +336,7 @@ def statements(files):
 def classes(files):
     """Names that are a method and an attribute in one class, defaults that are no plain values, rows of __exit__ and __eq__."""
     faults = []
+    alone = not {"__eq__", "__len__"} & own_methods(files)
     for name, node, around in nodes(files):
         if isinstance(node, ast.ClassDef):
             methods = [each.name for each in node.body if isinstance(each, ast.FunctionDef)]
@@ -349,7 +350,7 @@ def classes(files):
                    for each in defaults for part in ast.walk(each)):
                 faults.append(("L4", name, node.lineno))
             rows = node.body[1:] if ast.get_docstring(node) else node.body
-            if node.name == "__exit__" and not all(exit_row_right(row, node.args) for row in rows):
+            if node.name == "__exit__" and not all(exit_row_right(row, node.args, alone) for row in rows):
                 faults.append(("L6", name, node.lineno))
             if node.name in ("__eq__", "__len__", "__repr__", "__str__") and any(
                     isinstance(each, (ast.Assign, ast.AugAssign, ast.Delete)) for each in ast.walk(node)):
@@ -367,8 +368,11 @@ def is_path(node):
     return isinstance(node, ast.Name)
 
 
-def exit_row_right(row, args):
-    """Whether a row may stand in __exit__, as far as such rows are needed here."""
+def exit_row_right(row, args, alone):
+    """Whether a row may stand in __exit__, as far as such rows are needed here.
+
+    alone: whether an if may ask a name or an attribute alone, as no class has an __eq__ or a __len__.
+    """
     barred = {each.arg for each in args.args[2:]}
     if any(isinstance(each, ast.Name) and each.id in barred for each in ast.walk(row)):
         return False
@@ -378,19 +382,22 @@ def exit_row_right(row, args):
         return all(isinstance(each, ast.Attribute) and is_path(each) for each in row.targets) and (
             is_path(row.value) or isinstance(row.value, ast.Constant))
     if isinstance(row, ast.If):
-        return exit_test_right(row.test, args.args[1].arg) and all(exit_row_right(each, args) for each in row.body + row.orelse)
+        return exit_test_right(row.test, args.args[1].arg, alone) and all(
+            exit_row_right(each, args, alone) for each in row.body + row.orelse)
     return isinstance(row, ast.Pass)
 
 
-def exit_test_right(test, kind):
+def exit_test_right(test, kind, alone):
+    """Whether an if in __exit__ may ask this: kind by `is None` and `is not None`, all else by `is None`, or alone."""
     if isinstance(test, ast.BoolOp):
-        return all(exit_test_right(each, kind) for each in test.values)
+        return all(exit_test_right(each, kind, alone) for each in test.values)
     if isinstance(test, ast.UnaryOp):
-        return isinstance(test.op, ast.Not) and exit_test_right(test.operand, kind)
+        return isinstance(test.op, ast.Not) and exit_test_right(test.operand, kind, alone)
     if isinstance(test, ast.Compare):
         none = isinstance(test.comparators[0], ast.Constant) and test.comparators[0].value is None
-        return len(test.ops) == 1 and isinstance(test.ops[0], (ast.Is, ast.IsNot)) and none and is_path(test.left)
-    return is_path(test) and not (isinstance(test, ast.Name) and test.id == kind)
+        ways = (ast.Is, ast.IsNot) if isinstance(test.left, ast.Name) and test.left.id == kind else ast.Is
+        return len(test.ops) == 1 and isinstance(test.ops[0], ways) and none and is_path(test.left)
+    return alone and is_path(test) and not (isinstance(test, ast.Name) and test.id == kind)
 
 
 def own_methods(files):

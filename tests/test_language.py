@@ -148,6 +148,20 @@ class TestRules(unittest.TestCase):
                 found = rules.faults_of(self.files(text), "pack")
                 self.assertIn((rule, "some.py"), [fault[:2] for fault in found])
 
+    def test_what_exit_asks(self):
+        right = ("kind is None", "kind is not None", "self.one is None", "self.one.two is None", "kind is not None or self.one is None",
+                 "not self.one is None and not kind is None")
+        alone = ("self.one", "not self.one", "self.one.two", "kind is not None or not self.one", "self.one is None and self.two")
+        wrong = ("kind", "not kind", "kind is True", "kind == None", "value is None", "trace is None", "self.one is True",
+                 "self.one is not None", "self.one()", "self.one == self.two", "kind is self.one is None")
+        for method in ("", "__eq__(self, other)", "__len__(self)"):
+            head = f"class B:\n    def {method}:\n        return 1\n\n\n" if method else ""
+            for test in right + alone + wrong:
+                text = f"{head}class A:\n    def __exit__(self, kind, value, trace):\n        if {test}:\n            return False\n"
+                found = [fault[:2] for fault in rules.faults_of(self.files(text), "pack")]
+                with self.subTest(method=method, test=test):
+                    self.assertEqual(("L6", "some.py") not in found, test in right or test in alone and not method)
+
     def test_long_file(self):
         found = rules.faults_of(self.files("# x\n" * 400), "pack")
         self.assertEqual([fault[:2] for fault in found], [("L10", "some.py")])
